@@ -1,0 +1,1 @@
+"""Letterround: rounds and errands through a village without rings."""

@@ -1,0 +1,114 @@
+"""One ordinary call, or more, of each function of the interface that is there by now, by its parameters' names."""
+
+from letterround.builtrounds import are_rings, built_from, built_round, fitted
+from letterround.counting import count_holding, count_orders, count_rounds, factors, first_table
+from letterround.courses import closed, is_passes, opened, passes_of, weights
+from letterround.goingon import lost_at, next_houses, run_picker
+from letterround.greatest import greatest_ledger, is_wide, least_ledger
+from letterround.ladders import is_ladder, ladder, stretches
+from letterround.lengths import (gathering, longest_round, middles, near_house, one_more, shortest_round, walk_length)
+from letterround.letters import is_letters, letters_beyond, letters_of
+from letterround.numbering import count_begun, next_round, round_at, round_number
+from letterround.othervillages import built_on, joined_by, part_of, renamed
+from letterround.rounds import is_ledger, is_round, ledger_of, signs_at, walk_of
+from letterround.runs import counts_of, is_counts, is_errands
+from letterround.therule import can_be, is_paper, paper_of, parting_paths, round_fault, spare
+from letterround.tolls import cheapest, count_by_paces, dearest, ledger_with
+from letterround.turns import count_rings, turns_of
+from letterround.villages import Village, beside
+from letterround.ways import beyond, way
+from letterround.words import count_framed, count_words
+from tests.helpers import HOUSES, LEDGER, LETTERS, PATHS, ROUND, star, tree, two
+
+LEAST = {path: 1 for path in LEDGER}
+RINGS = {"a": ["b", "a", "b", "a"], "b": ["a", "c", "a", "b", "d"], "c": ["b", "c"], "d": ["d", "b"]}
+COUNTS = ({("a", "b"): 2, ("b", "c"): 1, ("b", "d"): 1}, {"a": 2, "b": 0, "c": 1, "d": 1})
+TOLLS = {("a", "b"): [3, -2], ("b", "c"): [0], ("b", "d"): [4]}
+CHAIN = Village(["a", "b", "c", "d"], [("a", "b"), ("b", "c"), ("c", "d")])
+
+
+def first_other(begun, left):
+    """Tells the first house with letters left that is not the last one begun."""
+    return [house for house in left if left[house] > 0 and house not in begun[-1:]][0]
+
+
+def calls():
+    """The list of pairs (function, its arguments by name)."""
+    both = {"village": star(), "letters": LETTERS, "ledger": LEDGER}
+    letters = {"village": star(), "letters": LETTERS}
+    lengths = {"village": star(), "letters": LETTERS, "lengths": LEAST}
+    row = {"village": star(), "row": ROUND}
+    return [
+        (Village, {"houses": HOUSES, "paths": PATHS}),
+        (beside, {"village": star(), "house": "b"}),
+        (way, {"village": star(), "one": "a", "other": "d"}),
+        (beyond, {"village": star(), "house": "a", "other": "b"}),
+        (is_letters, {"village": star(), "thing": LETTERS}),
+        (letters_beyond, {**letters, "house": "a", "other": "b"}),
+        (letters_of, row),
+        (is_round, {**letters, "thing": ROUND}),
+        (walk_of, row),
+        (ledger_of, row),
+        (is_ledger, {"village": star(), "thing": LEDGER}),
+        (signs_at, {**row, "house": "b"}),
+        (is_errands, {"village": star(), "thing": [("a", "c"), ("d", "a")]}),
+        (counts_of, {"village": star(), "errands": [("a", "c"), ("d", "a")]}),
+        (is_counts, {"village": star(), "thing": COUNTS}),
+        (part_of, {"village": tree(), "some": ["e", "d", "c"]}),
+        (built_on, {"village": star(), "house": "c", "name": "new"}),
+        (joined_by, {"one": part_of(tree(), ["e", "d"]), "other": part_of(star(), ["b", "a"]), "house": "d",
+                     "far": "b"}),
+        (renamed, {"village": star(), "names": {"a": "x", "b": "a", "c": "b", "d": "c"}}),
+        (parting_paths, letters),
+        (spare, both),
+        (can_be, both),
+        (paper_of, both),
+        (paper_of, {**both, "ledger": {**LEDGER, ("a", "b"): 3}}),
+        (is_paper, {**both, "ledger": {**LEDGER, ("a", "b"): 3}, "thing": ("much", "a", "b")}),
+        (round_fault, {**both, "thing": ROUND}),
+        (round_fault, {**both, "thing": ROUND[1:]}),
+        (built_round, both),
+        (built_from, {**both, "first": "c"}),
+        (are_rings, {"village": star(), "thing": RINGS}),
+        (fitted, {"village": star(), "rings": RINGS}),
+        (next_houses, {**both, "begun": ["c", "a"]}),
+        (lost_at, {**both, "begun": ["c", "a", "a"]}),
+        (run_picker, {**both, "picker": first_other}),
+        (count_words, {"signs": [2, 1, 1], "free": 1}),
+        (count_framed, {"signs": [2, 2], "free": 1}),
+        (factors, {**both, "first": "b"}),
+        (count_rounds, both),
+        (first_table, both),
+        (count_orders, letters),
+        (count_holding, {**both, "one": "a", "other": "b"}),
+        (round_at, {**both, "number": 11}),
+        (round_number, row),
+        (next_round, row),
+        (count_begun, {**both, "begun": ["c", "a"]}),
+        (turns_of, {"row": ROUND}),
+        (count_rings, both),
+        (greatest_ledger, letters),
+        (least_ledger, letters),
+        (is_wide, {**letters, "thing": ROUND}),
+        (walk_length, {"village": star(), "lengths": LEAST, "row": ROUND}),
+        (gathering, {**lengths, "house": "c"}),
+        (middles, letters),
+        (longest_round, lengths),
+        (shortest_round, lengths),
+        (near_house, {**lengths, "bound": 9}),
+        (one_more, {**lengths, "house": "a"}),
+        (stretches, {"village": CHAIN, "letters": {"a": 2, "b": 0, "c": 1, "d": 2}}),
+        (ladder, {**letters, "high": LEDGER, "low": LEAST}),
+        (is_ladder, {**letters, "thing": [LEDGER, LEAST]}),
+        (count_by_paces, letters),
+        (ledger_with, {**letters, "paces": 8}),
+        (dearest, {**letters, "tolls": TOLLS}),
+        (cheapest, {**letters, "tolls": TOLLS}),
+        (passes_of, row),
+        (is_passes, {"village": star(), "thing": LEDGER}),
+        (weights, {**letters, "first": "c", "last": "d"}),
+        (closed, {"village": star(), "passes": {("a", "b"): 4, ("b", "c"): 1, ("b", "d"): 1}, "first": "c",
+                  "last": "d"}),
+        (opened, {**row, "index": 2}),
+        (beside, {"village": two(), "house": "x"}),
+    ]

@@ -1,0 +1,75 @@
+"""The interface: each name in its own file, with its parameters."""
+
+import inspect
+import unittest
+from importlib import import_module
+
+from tests.calls import calls
+
+FILES = {
+    "villages": "Village(houses, paths); beside(village, house)",
+    "ways": "way(village, one, other); beyond(village, house, other)",
+    "letters": "is_letters(village, thing); letters_beyond(village, letters, house, other); letters_of(village, row)",
+    "rounds": "is_round(village, letters, thing); walk_of(village, row); ledger_of(village, row); "
+              "is_ledger(village, thing); signs_at(village, row, house)",
+    "runs": "is_errands(village, thing); counts_of(village, errands); is_counts(village, thing)",
+    "othervillages": "part_of(village, some); built_on(village, house, name); joined_by(one, other, house, far); "
+                     "renamed(village, names)",
+    "therule": "parting_paths(village, letters); spare(village, letters, ledger); can_be(village, letters, ledger); "
+               "paper_of(village, letters, ledger); is_paper(village, letters, ledger, thing); "
+               "round_fault(village, letters, ledger, thing)",
+    "builtrounds": "built_round(village, letters, ledger); built_from(village, letters, ledger, first); "
+                   "are_rings(village, thing); fitted(village, rings)",
+    "goingon": "next_houses(village, letters, ledger, begun); lost_at(village, letters, ledger, begun); "
+               "run_picker(village, letters, ledger, picker)",
+    "words": "count_words(signs, free); count_framed(signs, free)",
+    "counting": "factors(village, letters, ledger, first); count_rounds(village, letters, ledger); "
+                "first_table(village, letters, ledger); count_orders(village, letters); "
+                "count_holding(village, letters, ledger, one, other)",
+    "numbering": "round_at(village, letters, ledger, number); round_number(village, row); next_round(village, row); "
+                 "count_begun(village, letters, ledger, begun)",
+    "turns": "turns_of(row); count_rings(village, letters, ledger)",
+    "greatest": "greatest_ledger(village, letters); least_ledger(village, letters); is_wide(village, letters, thing)",
+    "lengths": "walk_length(village, lengths, row); gathering(village, letters, lengths, house); "
+               "middles(village, letters); longest_round(village, letters, lengths); "
+               "shortest_round(village, letters, lengths); near_house(village, letters, lengths, bound); "
+               "one_more(village, letters, lengths, house)",
+    "ladders": "stretches(village, letters); ladder(village, letters, high, low); is_ladder(village, letters, thing)",
+    "tolls": "count_by_paces(village, letters); ledger_with(village, letters, paces); "
+             "dearest(village, letters, tolls); cheapest(village, letters, tolls)",
+    "courses": "passes_of(village, row); is_passes(village, thing); weights(village, letters, first, last); "
+               "closed(village, passes, first, last); opened(village, row, index)",
+}
+
+
+def listed():
+    """The list of triples (file, name, list of parameters)."""
+    told = []
+    for file, row in FILES.items():
+        for part in row.split("; "):
+            name, params = part.rstrip(")").split("(")
+            told.append((file, name, params.split(", ")))
+    return told
+
+
+class Interface(unittest.TestCase):
+    def test_names_and_parameters(self):
+        for file, name, params in listed():
+            found = getattr(import_module("letterround." + file), name)
+            self.assertEqual(found.__module__, "letterround." + file)
+            self.assertEqual(list(inspect.signature(found).parameters), params, name)
+            for param in inspect.signature(found).parameters.values():
+                self.assertEqual((param.kind, param.default), (param.POSITIONAL_OR_KEYWORD, param.empty))
+
+    def test_methods_of_a_village_are_its_own(self):
+        village = import_module("letterround.villages").Village
+        for name in ("__init__", "houses", "paths", "__len__", "__eq__"):
+            self.assertIn(name, vars(village))
+
+    def test_each_is_called_by_the_tests_of_what_is_told(self):
+        called = {(function.__module__.split(".")[1], function.__name__) for function, _ in calls()}
+        self.assertEqual(called, {(file, name) for file, name, _ in listed()})
+
+
+if __name__ == "__main__":
+    unittest.main()

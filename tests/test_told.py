@@ -1,0 +1,155 @@
+"""[2], [3], [5], [6]: parameters by name, lists and tuples, what is told new, nothing that is passed changed."""
+
+import unittest
+
+from letterround.ladders import is_ladder, ladder
+from letterround.villages import Village
+from tests.calls import LEAST, calls
+from tests.helpers import LEDGER, LETTERS, any_objects, star
+
+
+def other_way_round(thing):
+    """Lists for tuples, tuples for lists, dicts in another order, at every depth; keys stay."""
+    if isinstance(thing, list):
+        return tuple(other_way_round(part) for part in thing)
+    if isinstance(thing, tuple):
+        return [other_way_round(part) for part in thing]
+    if isinstance(thing, dict):
+        return {key: other_way_round(thing[key]) for key in reversed(list(thing))}
+    return thing
+
+
+def copied(thing):
+    """A copy of lists, tuples and dicts; the rest as it is."""
+    if isinstance(thing, (list, tuple)):
+        return thing.__class__(copied(part) for part in thing)
+    if isinstance(thing, dict):
+        return {key: copied(thing[key]) for key in thing}
+    return thing
+
+
+def spoil(thing):
+    """Changes all lists and dicts within a thing."""
+    if isinstance(thing, (list, tuple)):
+        for part in thing:
+            spoil(part)
+        if isinstance(thing, list):
+            thing.append("spoiled")
+    if isinstance(thing, dict):
+        for part in thing.values():
+            spoil(part)
+        thing["spoiled"] = "spoiled"
+
+
+def orders_right(thing):
+    """Tells whether all dicts within a thing are ascending by their keys."""
+    if isinstance(thing, (list, tuple)):
+        return all(orders_right(part) for part in thing)
+    if isinstance(thing, dict):
+        return list(thing) == sorted(thing) and all(orders_right(part) for part in thing.values())
+    return True
+
+
+def same(one, other):
+    """Tells whether two things are equal, kinds of lists and truths, too."""
+    if one.__class__ is not other.__class__:
+        return False
+    if isinstance(one, (list, tuple)):
+        return len(one) == len(other) and all(same(*pair) for pair in zip(one, other))
+    if isinstance(one, dict):
+        return list(one) == list(other) and all(same(one[key], other[key]) for key in one)
+    return one == other
+
+
+class Told(unittest.TestCase):
+    def test_by_name_and_by_place_tell_the_same(self):
+        for function, given in calls():
+            told = function(**given)
+            self.assertTrue(same(told, function(*given.values())), function.__name__)
+
+    def test_lists_for_tuples_and_tuples_for_lists_and_orders_of_dicts(self):
+        for function, given in calls():
+            turned = {name: other_way_round(given[name]) for name in given}
+            self.assertTrue(same(function(**given), function(**turned)), function.__name__)
+
+    def test_what_is_passed_is_never_changed(self):
+        for function, given in calls():
+            ahead = {name: copied(given[name]) for name in given}
+            function(**given)
+            for name in given:
+                self.assertTrue(same(given[name], ahead[name]), function.__name__)
+
+    def test_what_is_told_is_new_each_time(self):
+        for function, given in calls():
+            ahead = copied(function(**given))
+            passed = {name: copied(given[name]) for name in given}
+            spoil(function(**given))
+            self.assertTrue(same(function(**given), ahead), function.__name__)
+            for name in given:
+                self.assertTrue(same(given[name], passed[name]), function.__name__)
+
+    def test_dicts_are_ascending(self):
+        for function, given in calls():
+            turned = {name: other_way_round(given[name]) for name in given}
+            self.assertTrue(orders_right(function(**turned)), function.__name__)
+
+    def test_all_interface_functions_are_called_here(self):
+        names = {function.__name__ for function, _ in calls()}
+        self.assertEqual(len(names), 67)
+
+    def test_a_ladder_shares_nothing_with_what_is_passed(self):
+        high, low = dict(LEDGER), dict(LEAST)
+        told = ladder(star(), LETTERS, high, low)
+        for ledger in told:
+            self.assertTrue(ledger is not high and ledger is not low)
+        self.assertEqual(len({id(ledger) for ledger in told}), len(told))
+        self.assertIs(is_ladder(star(), LETTERS, told), True)
+
+    def test_a_village_keeps_copies(self):
+        houses, paths = ["a", "b"], [["a", "b"]]
+        village = Village(houses, paths)
+        paths[0].append("c")
+        houses[0] = "z"
+        self.assertEqual((village.houses(), village.paths()), (["a", "b"], [("a", "b")]))
+
+    def test_one_village_with_two_letters_and_ledgers_in_turns(self):
+        village = star()
+        second = {"a": 1, "b": 0, "c": 2, "d": 1}
+        gone = {("a", "b"): 1, ("b", "c"): 2, ("b", "d"): 1}
+        for function, given in calls():
+            if "letters" in given and "ledger" in given:
+                more = {name: given[name] for name in given if name not in ("village", "letters", "ledger")}
+                if more.get("begun") or "first" in more or "number" in more:
+                    continue
+                for _ in range(2):
+                    for letters, ledger in ((LETTERS, LEDGER), (second, gone), (second, LEDGER)):
+                        told = function(village, letters, ledger, **more)
+                        self.assertTrue(same(told, function(star(), dict(letters), dict(ledger), **more)))
+            elif "letters" in given and "thing" not in given and "high" not in given and "lengths" not in given:
+                more = {name: given[name] for name in given if name not in ("village", "letters")}
+                if "tolls" in more:
+                    more["tolls"] = {path: [1, -1, 2] for path in LEDGER}
+                for letters in (LETTERS, second, LETTERS):
+                    told = function(village, letters, **more)
+                    self.assertTrue(same(told, function(star(), dict(letters), **more)))
+            elif "lengths" in given and "letters" in given:
+                more = {name: given[name] for name in given if name not in ("village", "letters", "lengths")}
+                for letters in (LETTERS, second):
+                    for lengths in (LEAST, LEDGER, LEAST):
+                        told = function(village, letters, lengths, **more)
+                        self.assertTrue(same(told, function(star(), letters, dict(lengths), **more)))
+
+    def test_any_objects_are_not_changed_by_being_asked_about(self):
+        things = any_objects()
+        kept = [copied(thing) for thing in things]
+        for function, given in calls():
+            if "thing" in given:
+                for thing in things:
+                    function(**{**given, "thing": thing})
+        for thing, ahead in zip(things, kept):
+            if thing.__class__ in (list, tuple, dict):
+                self.assertEqual(str(thing), str(ahead))
+
+
+if __name__ == "__main__":
+    unittest.main()
