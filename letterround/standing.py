@@ -66,22 +66,19 @@ class Standing:
         return all([self.can_end_at(place) for place in self.seen])
 
     def ends_at(self, place):
-        """In how many ways what is left of a house's signs can be put behind what is begun."""
+        """In how many ways what is left of a house's signs can be put behind what is begun, if it can."""
         left = self.left[place]
         if self.is_closed(place):
             return 1
         fixed = self.fixed(place)
         paths = [sign for sign in left if sign != place]
-        if any([left[sign] < 0 for sign in paths]):
-            return 0
         return count_tied([left[sign] + fixed[sign] for sign in paths], [fixed[sign] for sign in paths], left[place])
 
     def count_ends(self):
         """In how many ways what is begun, a letter at least, can go on to a round; 1 if it is one."""
+        if not self.can_end():
+            return 0
         ways = 1
-        for place in self.seen:
-            if not self.can_end_at(place):
-                return 0
         for place in self.seen:
             ways = ways * self.ends_at(place)
         return ways
