@@ -55,7 +55,7 @@ def is_ring(village, house, thing):
     if not is_listed(thing) or len(thing) == 0:
         return False
     signs = [house, *village.near()[house]]
-    if not all([isinstance(sign, str) and sign in signs for sign in thing]):
+    if not all([sign in signs for sign in thing]):
         return False
     if len(thing) == 1:
         return True
@@ -64,8 +64,8 @@ def is_ring(village, house, thing):
 
 def rings_meet(rings, one, other):
     """Tells whether two houses' rings agree about the path between."""
-    of_one = list(rings[one]).count(other)
-    of_other = list(rings[other]).count(one)
+    of_one = rings[one].count(other)
+    of_other = rings[other].count(one)
     if of_one > 0 and is_idle(one, rings[one]):
         return of_other == 0
     if of_other > 0 and is_idle(other, rings[other]):
@@ -86,16 +86,17 @@ def fitted(village, rings):
     """A round of which each house's ring is what it is seen as from there."""
     if not are_rings(village, rings):
         raise BadRings(rings)
-    return joined(village, {house: list(rings[house]) for house in village.houses()})
+    return joined(village, rings)
 
 
 def joined(village, rings):
     """The round of rings that agree: each one's pieces stand in place of its signs in the next one towards the root."""
-    # Some house has a sign of its own, and none that has is idle: so all that is gone hangs together with it.
+    # Some house has a sign of its own, and none that has is idle: all that is gone hangs together with it. What
+    # idle lists are cut to is never asked for.
     root = [house for house in village.houses() if house in rings[house]][0]
     pieces = {}
     for house, back in reversed(rooted(village, root)):
-        if back is None or (back in rings[house] and not is_idle(house, rings[house])):
+        if back is None or back in rings[house]:
             pieces[house] = cut_pieces(house, back, rings[house], pieces)
     return pieces[root][0]
 

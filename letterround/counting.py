@@ -24,7 +24,6 @@ def factor_of(village, letters, ledger, house, back):
 
 def factors(village, letters, ledger, first):
     """The dict from all houses to numbers whose product is how many rounds begin with house first."""
-    ask_both(village, letters, ledger)
     paper = paper_of(village, letters, ledger)
     if paper is not None:
         raise NoRound(paper)
@@ -83,7 +82,7 @@ def count_holding(village, letters, ledger, one, other):
     ask_house(village, other)
     many = sum(letters.values())
     pair = [one] if many == 1 and one == other else [one, other]
-    if not can_be(village, letters, ledger) or any([pair.count(house) > letters[house] for house in pair]):
+    if any([pair.count(house) > letters[house] for house in pair]):
         return 0
     # Turned about, each place of a round is once its beginning: so it is enough to count those begun so.
     standing = standing_at_first(village, letters, ledger)

@@ -54,7 +54,7 @@ def closed(village, passes, first, last):
     row = way(village, first, last)
     for house, other in zip(row, row[1:]):
         gone[path_between(house, other)] += 1
-    if any([number % 2 == 1 for number in list(gone.values())]):
+    if any([number % 2 == 1 for number in gone.values()]):
         return None
     return {path: gone[path] // 2 for path in gone}
 

@@ -9,14 +9,11 @@ from letterround.villages import is_house
 
 def next_houses(village, letters, ledger, begun):
     """The ascending list of the houses with which what is begun can go on."""
-    standing = standing_of(village, letters, ledger, begun)
-    if not can_be(village, letters, ledger):
-        return []
-    return next_of(standing)
+    return next_of(standing_of(village, letters, ledger, begun))
 
 
 def next_of(standing):
-    """The ascending list of the houses with which a standing of a ledger that can be can go on."""
+    """The ascending list of the houses with which what stands so can go on."""
     return [house for house in standing.houses_left() if standing.behind(house).can_end()]
 
 
@@ -39,7 +36,6 @@ def run_picker(village, letters, ledger, picker):
     ask_both(village, letters, ledger)
     if not is_function(picker):
         raise BadPicker(picker)
-    some = can_be(village, letters, ledger)
     standing = standing_at_first(village, letters, ledger)
     row = []
     while standing.houses_left():
@@ -49,6 +45,6 @@ def run_picker(village, letters, ledger, picker):
             return row, "odd"
         row.append(house)
         standing.bring(house)
-        if not some or not standing.can_end():
+        if not standing.can_end():
             return row, "lost"
     return row, "done"

@@ -49,7 +49,7 @@ def has_just(thing, keys):
 
 def is_table(thing, keys):
     """Tells whether thing is a dict from just these keys to numbers."""
-    return has_just(thing, keys) and all([is_number(number) for number in list(thing.values())])
+    return has_just(thing, keys) and all([is_number(number) for number in thing.values()])
 
 
 def first_no_number(thing):

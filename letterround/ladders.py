@@ -64,8 +64,7 @@ def is_ladder(village, letters, thing):
         if not is_ledger(village, ledger) or not can_be(village, letters, ledger):
             return False
     parts = stretches(village, letters)
-    pairs = list(zip(thing, thing[1:]))
-    return all([is_step(village, parts, ahead, behind) for ahead, behind in pairs])
+    return all([is_step(village, parts, ahead, behind) for ahead, behind in zip(thing, thing[1:])])
 
 
 def is_step(village, parts, ahead, behind):

@@ -3,12 +3,12 @@
 from letterround.errors import BadLetters, BadRound
 from letterround.kinds import is_listed, is_table
 from letterround.villages import is_house
-from letterround.ways import ask_path, beyond, rooted
+from letterround.ways import beyond, rooted
 
 
 def is_letters(village, thing):
     """Tells of any object whether it is letters of the village."""
-    return is_table(thing, village.houses()) and any([number > 0 for number in list(thing.values())])
+    return is_table(thing, village.houses()) and any([number > 0 for number in thing.values()])
 
 
 def ask_letters(village, letters):
@@ -20,14 +20,13 @@ def ask_letters(village, letters):
 def letters_beyond(village, letters, house, other):
     """How many letters go to the houses beyond the path from house to other."""
     ask_letters(village, letters)
-    ask_path(village, house, other)
     return sum([letters[far] for far in beyond(village, house, other)])
 
 
 def all_beyond(village, letters):
     """The dict from all pairs (house, one beside it) to how many letters go beyond."""
     order = rooted(village, village.houses()[0])
-    behind = {house: letters[house] for house, _ in order}
+    behind = {house: letters[house] for house in village.houses()}
     for house, back in reversed(order[1:]):
         behind[back] += behind[house]
     total = sum(letters.values())

@@ -4,7 +4,7 @@ from letterround.counting import count_rounds
 from letterround.errors import BadNumber
 from letterround.goingon import next_of
 from letterround.kinds import is_number
-from letterround.letters import ask_round, letters_of
+from letterround.letters import letters_of
 from letterround.rounds import ledger_of
 from letterround.standing import standing_at_first, standing_of
 
@@ -19,8 +19,7 @@ def round_at(village, letters, ledger, number):
     ahead = number
     while standing.houses_left():
         for house in standing.houses_left():
-            further = standing.behind(house)
-            ways = further.count_ends()
+            ways = standing.behind(house).count_ends()
             if ahead < ways:
                 break
             ahead = ahead - ways
@@ -31,7 +30,6 @@ def round_at(village, letters, ledger, number):
 
 def round_number(village, row):
     """The number of a round among those with its letters and its ledger."""
-    ask_round(village, row)
     standing = standing_at_first(village, letters_of(village, row), ledger_of(village, row))
     number = 0
     for house in row:
@@ -44,9 +42,7 @@ def round_number(village, row):
 
 def next_round(village, row):
     """The round with the next number, None behind the last one."""
-    ask_round(village, row)
-    first = standing_at_first(village, letters_of(village, row), ledger_of(village, row))
-    standings = [first]
+    standings = [standing_at_first(village, letters_of(village, row), ledger_of(village, row))]
     for house in row:
         standings.append(standings[-1].behind(house))
     for index in range(len(row) - 1, -1, -1):

@@ -39,9 +39,9 @@ class Standing:
         return [place for place in self.seen if self.left[place][place] > 0]
 
     def fixed(self, place):
-        """The dict from a house's signs to how many of both ends of what is left there are tied to it."""
+        """The dict from a house's paths' signs to how many of both ends of what is left there are tied to it."""
         ends = [self.tail[place], self.head[place]]
-        return {sign: ends.count(sign) if sign != place else 0 for sign in self.left[place]}
+        return {sign: ends.count(sign) for sign in self.left[place] if sign != place}
 
     def is_closed(self, place):
         """Tells whether at a house the first and the last sign are one of the ring, and nothing else is left."""
@@ -58,8 +58,7 @@ class Standing:
             return True
         fixed = self.fixed(place)
         total = sum(left.values())
-        paths = [sign for sign in left if sign != place]
-        return not any([left[sign] < 0 or left[sign] + fixed[sign] > 1 + total - left[sign] for sign in paths])
+        return not any([left[sign] < 0 or left[sign] + fixed[sign] > 1 + total - left[sign] for sign in fixed])
 
     def can_end(self):
         """Tells whether what is begun, a letter at least, can go on to a round, or is one."""
@@ -71,8 +70,7 @@ class Standing:
         if self.is_closed(place):
             return 1
         fixed = self.fixed(place)
-        paths = [sign for sign in left if sign != place]
-        return count_tied([left[sign] + fixed[sign] for sign in paths], [fixed[sign] for sign in paths], left[place])
+        return count_tied([left[sign] + fixed[sign] for sign in fixed], list(fixed.values()), left[place])
 
     def count_ends(self):
         """In how many ways what is begun, a letter at least, can go on to a round; 1 if it is one."""

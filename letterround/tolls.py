@@ -24,7 +24,7 @@ def ledger_with(village, letters, paces):
 
 
 def ask_tolls(village, letters, tolls):
-    """Raises BadTolls for what is no dict from just all paths to lists of integers, long enough."""
+    """Raises BadLetters, then BadTolls for what is no dict from just all paths to lists of integers, long enough."""
     greatest = greatest_ledger(village, letters)
     if not has_just(tolls, village.paths()):
         raise BadTolls(tolls)
@@ -47,7 +47,6 @@ def cheapest(village, letters, tolls):
 
 def best_by_tolls(village, letters, tolls, worth):
     """The pair of the greatest sum of tolls, each times worth, of a carried ledger, and one that has it."""
-    ask_letters(village, letters)
     ask_tolls(village, letters, tolls)
     greatest = greatest_ledger(village, letters)
     costs = {path: [0] for path in village.paths()}

@@ -68,12 +68,12 @@ def joined_groups(group, one, other):
 
 
 def near_houses(houses, paths):
-    """The dict from all houses to the ascending lists of those beside them."""
+    """The dict from all houses to the ascending lists of those beside them, paths being ascending."""
     near = {house: [] for house in houses}
     for one, other in paths:
         near[one].append(other)
         near[other].append(one)
-    return {house: sorted(near[house]) for house in houses}
+    return near
 
 
 def path_between(one, other):

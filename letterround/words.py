@@ -18,7 +18,7 @@ def ask_words(signs, free):
 def count_words(signs, free):
     """How many rows there are of just these signs and free ones."""
     ask_words(signs, free)
-    return count_tied(signs, [0 for _ in signs], free)
+    return count_tied(signs, [0] * len(signs), free)
 
 
 def count_framed(signs, free):
@@ -27,7 +27,7 @@ def count_framed(signs, free):
     if len(signs) == 0 or signs[0] == 0:
         return 0
     # Not to end with kind 0 is to have room for one more behind.
-    return count_tied([signs[0] + 1, *signs[1:]], [2, *[0 for _ in signs[1:]]], free)
+    return count_tied([signs[0] + 1, *signs[1:]], [2] + [0] * (len(signs) - 1), free)
 
 
 def count_tied(signs, tied, free):

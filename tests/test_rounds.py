@@ -162,6 +162,7 @@ class Runs(unittest.TestCase):
     def test_is_counts(self):
         by_path, by_house = counts_of(star(), [("a", "c")])
         self.assertIs(is_counts(star(), (by_path, by_house)), True)
+        self.assertIsNone(ask_counts(star(), (by_path, by_house)))
         self.assertIs(is_counts(star(), [by_path, by_house]), True)
         self.assertIs(is_counts(lone(), [{}, {"x": 0}]), True)
         bad = [(thing, by_house) for thing in bad_tables(by_path)] + [(by_path, thing) for thing in bad_tables(by_house)]

@@ -180,6 +180,7 @@ class Rings(unittest.TestCase):
             self.assertIs(are_rings(star(), {**idle, **wrong}), False)
         self.assertIs(are_rings(two(), {"a": ["x"], "x": ["a"]}), False)
         self.assertIs(are_rings(lone(), {"x": ["x"]}), True)
+        self.assertIs(are_rings(lone(), {"x": []}), False)
         self.assertEqual(fitted(lone(), {"x": ("x", "x")}), ["x", "x"])
 
     def test_wrong_rings(self):

@@ -26,6 +26,7 @@ class Villages(unittest.TestCase):
 
     def test_equal_are_those_with_the_same_houses_and_paths_alone(self):
         self.assertFalse(star() != Village(tuple(HOUSES[::-1]), [list(path[::-1]) for path in PATHS]))
+        self.assertFalse(lone() == Village(["y"], []))
         other = Village(HOUSES, [("a", "b"), ("b", "c"), ("c", "d")])
         for thing in [other, lone(), two(), HOUSES, (HOUSES, PATHS), None, 4, "a"]:
             self.assertFalse(star() == thing)
@@ -49,7 +50,8 @@ class Villages(unittest.TestCase):
         for thing in [None, False, 1, "ab", {("a", "b"): 1}, star()]:
             self.assertEqual(raised(BadPaths, Village, ["a", "b"], thing).index, 0)
         for thing in any_objects() + [("a", "b"), ("b", "a"), ["a", "b"], ("a", "a"), ("c", "c"), "bc", ("b", "zz"),
-                                      ("b", "c", "c"), ("c",), (("b",), "c"), ("b", True), {"b": "c"}]:
+                                      ("b", "c", "c"), ("c",), (("b",), "c"), ("b", True), {"b": "c"},
+                                      (["b"], "c"), ("b", {}), [{"b": 1}, ["c"]]]:
             error = raised(BadPaths, Village, ["a", "b", "c"], [("a", "b"), thing, ("b", "zz")])
             self.assertEqual(error.index, 1)
         ring = [("a", "b"), ("b", "c"), ("d", "e"), ("c", "a"), ("e", "d")]
