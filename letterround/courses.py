@@ -4,8 +4,8 @@ from letterround.errors import BadIndex, BadPasses, NoEnd
 from letterround.kinds import is_number, is_table
 from letterround.letters import ask_letters, ask_round
 from letterround.rounds import times_gone, walked
-from letterround.villages import ask_house, path_between
-from letterround.ways import way
+from letterround.villages import ask_house
+from letterround.ways import paths_on_way
 
 
 def passes_of(village, row):
@@ -26,14 +26,20 @@ def ask_passes(village, passes):
         raise BadPasses(passes)
 
 
+def ends_fit(letters, first, last):
+    """Tells whether a first and a last house fit the letters."""
+    if first != last:
+        return letters[first] > 0 and letters[last] > 0
+    return letters[first] > 1 or (letters[first] == 1 and sum(letters.values()) == 1)
+
+
 def ask_ends(village, letters, first, last):
     """Raises NoHouse for what are no houses, NoEnd for a first and a last house that do not fit the letters."""
     ask_house(village, first)
     ask_house(village, last)
     if letters[first] == 0:
         raise NoEnd(first)
-    alone = letters[first] == sum(letters.values())
-    if letters[last] == 0 or (first == last and letters[last] == 1 and not alone):
+    if not ends_fit(letters, first, last):
         raise NoEnd(last)
 
 
@@ -51,9 +57,8 @@ def closed(village, passes, first, last):
     """The ledger of the rounds that courses with these passes make, gone back; None if that is not whole."""
     ask_passes(village, passes)
     gone = {path: passes[path] for path in village.paths()}
-    row = way(village, first, last)
-    for house, other in zip(row, row[1:]):
-        gone[path_between(house, other)] += 1
+    for path in paths_on_way(village, first, last):
+        gone[path] += 1
     if any([number % 2 == 1 for number in gone.values()]):
         return None
     return {path: gone[path] // 2 for path in gone}

@@ -52,6 +52,16 @@ def is_table(thing, keys):
     return has_just(thing, keys) and all([is_number(number) for number in thing.values()])
 
 
+def is_span(thing):
+    """Tells whether thing is a pair (least, most) of numbers, most from least on."""
+    return is_pair(thing) and is_number(thing[0]) and is_number(thing[1]) and thing[0] <= thing[1]
+
+
+def is_span_table(thing, keys):
+    """Tells whether thing is a dict from just these keys to pairs (least, most) of numbers."""
+    return has_just(thing, keys) and all([is_span(span) for span in thing.values()])
+
+
 def first_no_number(thing):
     """The index of the first thing that is no number, 0 for no list, None if all are."""
     if not is_listed(thing):

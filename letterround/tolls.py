@@ -10,7 +10,8 @@ from letterround.ways import rooted
 
 def count_by_paces(village, letters):
     """The dict from all numbers of paces of carried ledgers to how many have it."""
-    found = by_sums(village, letters, pace_costs(village, letters), False)
+    ask_letters(village, letters)
+    found = by_sums(village, letters, carried_numbers(village, letters), pace_costs(village, letters), False)
     return {paces: found[paces][0] for paces in sorted(found)}
 
 
@@ -19,7 +20,7 @@ def ledger_with(village, letters, paces):
     ask_letters(village, letters)
     if not is_number(paces):
         raise BadNumber(paces)
-    found = by_sums(village, letters, pace_costs(village, letters), False)
+    found = by_sums(village, letters, carried_numbers(village, letters), pace_costs(village, letters), False)
     return told_ledger(village, found[paces][1]) if paces in found else None
 
 
@@ -53,7 +54,7 @@ def best_by_tolls(village, letters, tolls, worth):
     for path in village.paths():
         for toll in tolls[path][:greatest[path]]:
             costs[path].append(costs[path][-1] + worth * toll)
-    found = by_sums(village, letters, costs, True)
+    found = by_sums(village, letters, carried_numbers(village, letters), costs, True)
     total = max(found)
     return total, told_ledger(village, found[total][1])
 
@@ -64,30 +65,36 @@ def pace_costs(village, letters):
     return {path: [2 * number for number in range(greatest[path] + 1)] for path in village.paths()}
 
 
+def carried_numbers(village, letters):
+    """The dict from all paths to the lists of the numbers from the least ledger's to the greatest one's."""
+    greatest = greatest_ledger(village, letters)
+    least = least_ledger(village, letters)
+    return {path: list(range(least[path], greatest[path] + 1)) for path in village.paths()}
+
+
 def told_ledger(village, pairs):
     """The ledger of pairs (path, number)."""
     numbers = {path: number for path, number in pairs}
     return {path: numbers[path] for path in village.paths()}
 
 
-def by_sums(village, letters, costs, best):
-    """The dict from the sums of costs of carried ledgers to pairs: how many have it, the pairs of one that has.
+def by_sums(village, own, numbers, costs, best):
+    """The dict from sums of costs to pairs: how many ledgers with these numbers have it, the pairs of one that has.
 
-    If best is true only the greatest sum is kept, and how many have it is not told.
+    No path of a ledger is more than the others of a house and the house's own, together. If best is true only the
+    greatest sum is kept, and how many have it is not told.
     """
-    greatest = greatest_ledger(village, letters)
-    least = least_ledger(village, letters)
     below = {house: [] for house in village.houses()}
     found = {}
     for house, back in reversed(rooted(village, village.houses()[0])):
         states = states_of(below[house], best)
         if back is None:
-            found = sums_behind(states, letters[house], 0, best)
+            found = sums_behind(states, own[house], 0, best)
         else:
             path = path_between(house, back)
             tables = {}
-            for number in range(least[path], greatest[path] + 1):
-                behind = sums_behind(states, letters[house], number, best)
+            for number in numbers[path]:
+                behind = sums_behind(states, own[house], number, best)
                 tables[number] = with_cost(behind, path, number, costs[path][number])
             below[back].append(tables)
     return found
@@ -134,11 +141,11 @@ def kept_sums(found, best):
     return found
 
 
-def sums_behind(states, letters, number, best):
-    """The sums behind a house with so many letters, if the path towards the root is gone so often."""
+def sums_behind(states, own, number, best):
+    """The sums behind a house with so much of its own, if the path towards the root is gone so often."""
     told = {}
     for (total, most), found in states.items():
-        if most <= total - most + number + letters and number <= total + letters:
+        if most <= total - most + number + own and number <= total + own:
             add_sums(told, found)
     return kept_sums(told, best)
 

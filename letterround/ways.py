@@ -1,7 +1,7 @@
 """Ways from house to house, and what lies beyond a path."""
 
 from letterround.errors import NoPath
-from letterround.villages import ask_house
+from letterround.villages import ask_house, path_between
 
 
 def rooted(village, root):
@@ -14,6 +14,12 @@ def rooted(village, root):
         told.extend(reached)
         ahead = reached
     return told
+
+
+def pairs_behind_further(village):
+    """The list of all pairs (house, one beside it), each behind those that lead further from its second house."""
+    order = rooted(village, village.houses()[0])[1:]
+    return [(back, house) for house, back in reversed(order)] + order
 
 
 def steps_towards(village, root):
@@ -46,6 +52,12 @@ def way(village, one, other):
     while row[-1] != other:
         row.append(towards[row[-1]])
     return row
+
+
+def paths_on_way(village, one, other):
+    """The list of the paths of the way from one to other."""
+    row = way(village, one, other)
+    return [path_between(house, further) for house, further in zip(row, row[1:])]
 
 
 def beyond(village, house, other):

@@ -1,13 +1,23 @@
 """One ordinary call, or more, of each function of the interface that is there by now, by its parameters' names."""
 
+from letterround.boxcounts import count_in, index_in, ledger_at
+from letterround.boxes import box_paper, greatest_in, path_numbers, sure_paths
 from letterround.builtrounds import are_rings, built_from, built_round, fitted
+from letterround.caps import greatest_beneath, holders, lets_through
 from letterround.counting import count_holding, count_orders, count_rounds, factors, first_table
+from letterround.courselengths import (longest_course, longest_ends, near_end_house, shortest_course, shortest_ends)
+from letterround.coursenumbers import course_paces, least_passes, most_passes
+from letterround.courserule import course_ends, course_fault, course_with, odd_houses
 from letterround.courses import closed, is_passes, opened, passes_of, weights
 from letterround.goingon import lost_at, next_houses, run_picker
 from letterround.greatest import greatest_ledger, is_wide, least_ledger
+from letterround.inall import letters_between
+from letterround.lacks import can_get, count_letters, gone_apart, lacks, least_letters
 from letterround.ladders import is_ladder, ladder, stretches
 from letterround.lengths import (gathering, longest_round, middles, near_house, one_more, shortest_round, walk_length)
+from letterround.letterboxes import gone_span, house_span, is_in, letterbox_paper, sides, some_pair
 from letterround.letters import is_letters, letters_beyond, letters_of
+from letterround.lots import caps_paper, holding_lot, is_holding
 from letterround.numbering import count_begun, next_round, round_at, round_number
 from letterround.othervillages import built_on, joined_by, part_of, renamed
 from letterround.rounds import is_ledger, is_round, ledger_of, signs_at, walk_of
@@ -24,6 +34,11 @@ LEAST = {path: 1 for path in LEDGER}
 RINGS = {"a": ["b", "a", "b", "a"], "b": ["a", "c", "a", "b", "d"], "c": ["b", "c"], "d": ["d", "b"]}
 COUNTS = ({("a", "b"): 2, ("b", "c"): 1, ("b", "d"): 1}, {"a": 2, "b": 0, "c": 1, "d": 1})
 TOLLS = {("a", "b"): [3, -2], ("b", "c"): [0], ("b", "d"): [4]}
+PASSES = {("a", "b"): 4, ("b", "c"): 1, ("b", "d"): 1}
+CAPS = {("a", "b"): 2, ("b", "c"): 1, ("b", "d"): 1}
+BOX = {("a", "b"): (1, 2), ("b", "c"): (0, 2), ("b", "d"): (1, 1)}
+LETTERBOX = ({"a": (0, 2), "b": (0, 1), "c": (0, 1), "d": (0, 1)},
+             {("a", "b"): (2, 2), ("b", "c"): (0, 2), ("b", "d"): (0, 2)})
 CHAIN = Village(["a", "b", "c", "d"], [("a", "b"), ("b", "c"), ("c", "d")])
 
 
@@ -111,4 +126,74 @@ def calls():
                   "last": "d"}),
         (opened, {**row, "index": 2}),
         (beside, {"village": two(), "house": "x"}),
+        *course_calls(),
+        *capped_calls(),
+        *unknown_calls(),
+    ]
+
+
+def course_calls():
+    """Those of [44] to [48]."""
+    ends = {"village": star(), "letters": LETTERS, "first": "c", "last": "d"}
+    passed = {"village": star(), "letters": LETTERS, "passes": PASSES, "first": "c", "last": "d"}
+    measured = {"village": star(), "letters": LETTERS, "lengths": LEAST, "first": "c", "last": "d"}
+    lengths = {"village": star(), "letters": LETTERS, "lengths": LEAST}
+    return [
+        (course_fault, passed),
+        (course_fault, {**passed, "passes": LEAST}),
+        (course_with, passed),
+        (odd_houses, {"village": star(), "passes": PASSES}),
+        (course_ends, {"village": star(), "letters": LETTERS, "passes": PASSES}),
+        (most_passes, ends),
+        (least_passes, ends),
+        (course_paces, ends),
+        (longest_course, measured),
+        (shortest_course, measured),
+        (near_end_house, {**measured, "bound": 7}),
+        (longest_ends, lengths),
+        (shortest_ends, lengths),
+    ]
+
+
+def capped_calls():
+    """Those of [51] to [57]."""
+    caps = {"village": star(), "letters": LETTERS, "caps": CAPS}
+    path = {**caps, "house": "a", "other": "b"}
+    box = {"village": star(), "letters": LETTERS, "box": BOX}
+    return [
+        (greatest_beneath, caps),
+        (lets_through, path),
+        (holders, {**caps, "letters": {"a": 3, "b": 0, "c": 1, "d": 1}, "house": "b", "other": "a"}),
+        (holders, {**caps, "caps": LEAST, "house": "b", "other": "a"}),
+        (holding_lot, {**path, "letters": {"a": 2, "b": 0, "c": 1, "d": 1}, "number": 3}),
+        (is_holding, {**path, "letters": {"a": 2, "b": 0, "c": 1, "d": 1}, "number": 3, "thing": ["d", "b"]}),
+        (caps_paper, {**caps, "letters": {"a": 2, "b": 0, "c": 1, "d": 1}, "caps": {**CAPS, ("b", "d"): 0}}),
+        (greatest_in, box),
+        (box_paper, {**box, "box": {**BOX, ("a", "b"): (3, 3)}}),
+        (path_numbers, {**box, "house": "a", "other": "b"}),
+        (sure_paths, box),
+        (count_in, box),
+        (ledger_at, {**box, "number": 1}),
+        (index_in, {**box, "ledger": LEDGER}),
+    ]
+
+
+def unknown_calls():
+    """Those of [60] to [67]."""
+    ledger = {"village": star(), "ledger": LEDGER}
+    box = {"village": star(), "box": LETTERBOX}
+    return [
+        (lacks, ledger),
+        (gone_apart, {"village": CHAIN, "ledger": {("a", "b"): 2, ("b", "c"): 0, ("c", "d"): 1}}),
+        (can_get, {**ledger, "thing": LETTERS}),
+        (least_letters, ledger),
+        (count_letters, {**ledger, "many": 5}),
+        (is_in, {**box, "thing": (LETTERS, LEDGER)}),
+        (sides, box),
+        (letterbox_paper, {"village": star(), "box": ({**LETTERBOX[0], "a": (0, 1)}, LETTERBOX[1])}),
+        (letterbox_paper, {"village": star(), "box": (LETTERBOX[0], {**LETTERBOX[1], ("a", "b"): (2, 2)})}),
+        (some_pair, box),
+        (gone_span, {**box, "path": ("c", "b")}),
+        (house_span, {**box, "house": "a"}),
+        (letters_between, box),
     ]

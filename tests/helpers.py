@@ -83,6 +83,26 @@ def bad_tables(good):
     return told + [list(good), list(good.items()), tuple(good.values())]
 
 
+def bad_spans(good):
+    """Dicts near to a good one from keys to pairs (least, most), none of them right."""
+    told = []
+    for key in good:
+        told.append({other: good[other] for other in good if other != key})
+        for span in (1, None, "01", (), (0,), (0, 1, 2), (2, 1), (-1, 1), (0, None), (None, None), (True, 1), (0, True),
+                     ("0", 1), (0, [1]), {0: 1, 1: 2}):
+            told.append({**good, key: span})
+    for key in ("zz", 1, None, ("b", "a"), ("a", "zz"), ("a",), ("a", "c")):
+        if key not in good:
+            told.append({**good, key: (0, 1)})
+    if good:
+        first = next(iter(good))
+        changed = {key: good[key] for key in good if key != first}
+        if isinstance(first, tuple):
+            told.append({**changed, first[::-1]: good[first]})
+        told.append({**changed, "zz": good[first]})
+    return told + [list(good), list(good.items()), tuple(good.values())]
+
+
 def naive_way(village, one, other, back=None):
     """The way from one to other, found by trying."""
     if one == other:

@@ -39,6 +39,28 @@ FILES = {
              "dearest(village, letters, tolls); cheapest(village, letters, tolls)",
     "courses": "passes_of(village, row); is_passes(village, thing); weights(village, letters, first, last); "
                "closed(village, passes, first, last); opened(village, row, index)",
+    "courserule": "course_fault(village, letters, passes, first, last); "
+                  "course_with(village, letters, passes, first, last); odd_houses(village, passes); "
+                  "course_ends(village, letters, passes)",
+    "coursenumbers": "most_passes(village, letters, first, last); least_passes(village, letters, first, last); "
+                     "course_paces(village, letters, first, last)",
+    "courselengths": "longest_course(village, letters, lengths, first, last); "
+                     "shortest_course(village, letters, lengths, first, last); "
+                     "near_end_house(village, letters, lengths, first, last, bound); "
+                     "longest_ends(village, letters, lengths); shortest_ends(village, letters, lengths)",
+    "caps": "greatest_beneath(village, letters, caps); lets_through(village, letters, caps, house, other); "
+            "holders(village, letters, caps, house, other)",
+    "lots": "holding_lot(village, letters, caps, house, other, number); "
+            "is_holding(village, letters, caps, house, other, number, thing); caps_paper(village, letters, caps)",
+    "boxes": "greatest_in(village, letters, box); box_paper(village, letters, box); "
+             "path_numbers(village, letters, box, house, other); sure_paths(village, letters, box)",
+    "boxcounts": "count_in(village, letters, box); ledger_at(village, letters, box, number); "
+                 "index_in(village, letters, box, ledger)",
+    "lacks": "lacks(village, ledger); gone_apart(village, ledger); can_get(village, ledger, thing); "
+             "least_letters(village, ledger); count_letters(village, ledger, many)",
+    "letterboxes": "is_in(village, box, thing); sides(village, box); letterbox_paper(village, box); "
+                   "some_pair(village, box); gone_span(village, box, path); house_span(village, box, house)",
+    "inall": "letters_between(village, box)",
 }
 
 

@@ -2,6 +2,7 @@
 
 import unittest
 
+from letterround.errors import PostError
 from letterround.ladders import is_ladder, ladder
 from letterround.villages import Village
 from tests.calls import LEAST, calls
@@ -61,6 +62,29 @@ def same(one, other):
     return one == other
 
 
+def outcome(function, given):
+    """What a call tells, or the error that it raises, with all that this holds."""
+    try:
+        return function(**given)
+    except PostError as error:
+        return error.__class__.__name__, vars(error)
+
+
+OTHERS = {
+    "letters": [{"a": 1, "b": 0, "c": 2, "d": 1}, {"a": 0, "b": 4, "c": 0, "d": 0}],
+    "ledger": [{("a", "b"): 1, ("b", "c"): 2, ("b", "d"): 1}, LEAST],
+    "passes": [{("a", "b"): 2, ("b", "c"): 3, ("b", "d"): 1}],
+    "lengths": [{("a", "b"): 5, ("b", "c"): 0, ("b", "d"): 2}],
+    "caps": [{("a", "b"): 1, ("b", "c"): 1, ("b", "d"): 2}],
+    "tolls": [{path: [1, -1, 2] for path in LEDGER}],
+    "first": ["a", "d"],
+    "last": ["c"],
+    "house": ["b", "c"],
+    "number": [0, 1],
+    "thing": [None],
+}
+
+
 class Told(unittest.TestCase):
     def test_by_name_and_by_place_tell_the_same(self):
         for function, given in calls():
@@ -95,7 +119,7 @@ class Told(unittest.TestCase):
 
     def test_all_interface_functions_are_called_here(self):
         names = {function.__name__ for function, _ in calls()}
-        self.assertEqual(len(names), 67)
+        self.assertEqual(len(names), 104)
 
     def test_a_ladder_shares_nothing_with_what_is_passed(self):
         high, low = dict(LEDGER), dict(LEAST)
@@ -114,30 +138,17 @@ class Told(unittest.TestCase):
 
     def test_one_village_with_two_letters_and_ledgers_in_turns(self):
         village = star()
-        second = {"a": 1, "b": 0, "c": 2, "d": 1}
-        gone = {("a", "b"): 1, ("b", "c"): 2, ("b", "d"): 1}
         for function, given in calls():
-            if "letters" in given and "ledger" in given:
-                more = {name: given[name] for name in given if name not in ("village", "letters", "ledger")}
-                if more.get("begun") or "first" in more or "number" in more:
-                    continue
-                for _ in range(2):
-                    for letters, ledger in ((LETTERS, LEDGER), (second, gone), (second, LEDGER)):
-                        told = function(village, letters, ledger, **more)
-                        self.assertTrue(same(told, function(star(), dict(letters), dict(ledger), **more)))
-            elif "letters" in given and "thing" not in given and "high" not in given and "lengths" not in given:
-                more = {name: given[name] for name in given if name not in ("village", "letters")}
-                if "tolls" in more:
-                    more["tolls"] = {path: [1, -1, 2] for path in LEDGER}
-                for letters in (LETTERS, second, LETTERS):
-                    told = function(village, letters, **more)
-                    self.assertTrue(same(told, function(star(), dict(letters), **more)))
-            elif "lengths" in given and "letters" in given:
-                more = {name: given[name] for name in given if name not in ("village", "letters", "lengths")}
-                for letters in (LETTERS, second):
-                    for lengths in (LEAST, LEDGER, LEAST):
-                        told = function(village, letters, lengths, **more)
-                        self.assertTrue(same(told, function(star(), letters, dict(lengths), **more)))
+            if given.get("village") != village:
+                continue
+            kept = {name: given[name] for name in given if name != "village"}
+            told = [kept]
+            for name in kept:
+                told += [{**kept, name: other} for other in OTHERS.get(name, [])]
+            told.append({name: OTHERS.get(name, [kept[name]])[0] for name in kept})
+            for more in told + told[::-1] + told:
+                here = outcome(function, {"village": village, **more})
+                self.assertTrue(same(here, outcome(function, {"village": star(), **copied(more)})), function.__name__)
 
     def test_any_objects_are_not_changed_by_being_asked_about(self):
         things = any_objects()
