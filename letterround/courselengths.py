@@ -85,4 +85,5 @@ def shortest_ends(village, letters, lengths):
     ends = fitting_ends(village, letters)
     farthest = max([ways[first][last] for first, last in ends])
     told = [(first, last) for first, last in ends if ways[first][last] == farthest]
-    return length_gone(lengths, least_passes(village, letters, *told[0])), told
+    one, other = told[0]
+    return length_gone(lengths, least_passes(village, letters, one, other)), told

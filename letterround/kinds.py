@@ -1,6 +1,6 @@
 """What any object is: a name, an integer, a number, a list, a table of numbers, a function."""
 
-from letterround.errors import PostError
+from letterround.errors import BadNumber, PostError
 
 SMALL_LETTERS = "abcdefghijklmnopqrstuvwxyz"
 FIGURES = "0123456789"
@@ -28,6 +28,12 @@ def is_integer(thing):
 def is_number(thing):
     """Tells whether thing is an integer from 0 on."""
     return is_integer(thing) and thing >= 0
+
+
+def ask_from_one(thing):
+    """Raises BadNumber for what is no integer from 1 on."""
+    if not is_integer(thing) or thing < 1:
+        raise BadNumber(thing)
 
 
 def is_listed(thing):

@@ -1,6 +1,6 @@
 """Boxes of letters and ledgers, both not known: pairs in them, papers against them, spans of the numbers."""
 
-from letterround.balanced import balanced
+from letterround.balanced import filled
 from letterround.errors import BadBox, NoPath, NotPossible
 from letterround.kinds import is_pair, is_span_table
 from letterround.letters import all_beyond, is_letters
@@ -96,15 +96,8 @@ def some_pair(village, box):
         return one_letter(village, box)
     found = sides(village, box)
     letters = rooms_of(village, box, hull)
-    gone = {path: 0 for path in village.paths()}
-    near = village.near()
-    for house, back in rooted(village, hull[0]):
-        inward = 0 if back is None else gone[path_between(house, back)]
-        further = [other for other in near[house] if other != back]
-        numbers = balanced([found[(house, other)][1] for other in further], letters[house] + inward)
-        for other, number in zip(further, numbers):
-            gone[path_between(house, other)] = number
-    return letters, gone
+    highs = {pair: found[pair][1] for pair in found}
+    return letters, filled(village, hull[0], letters, highs, 0)
 
 
 def one_letter(village, box):
@@ -143,4 +136,5 @@ def house_span(village, box, house):
     around = [pair for key, pair in sides(village, box).items() if key[0] == house]
     highs = sum([high for low, high in around])
     room = rooms_of(village, box, hull_of(village, box)[0])[house]
-    return max([box[0][house][0], *[low + high - highs for low, high in around]]), room
+    lows = [low + high - highs for low, high in around]
+    return max([box[0][house][0], *lows]), room

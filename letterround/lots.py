@@ -63,11 +63,12 @@ def is_lot_for(village, thing, pair):
 
 def sum_of_lot(village, letters, caps, lot, pair):
     """The sum of a lot for the path of a pair: its letters, and the caps of the paths that lead out of it further."""
+    held = path_between(pair[0], pair[1])
     if len(lot) == 0:
-        return caps[path_between(*pair)]
+        return caps[held]
     total = sum([letters[place] for place in lot])
     for one, other in village.paths():
-        if (one in lot) != (other in lot) and (one, other) != path_between(*pair):
+        if (one in lot) != (other in lot) and (one, other) != held:
             total += caps[(one, other)]
     return total
 

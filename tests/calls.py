@@ -1,14 +1,19 @@
 """One ordinary call, or more, of each function of the interface that is there by now, by its parameters' names."""
 
+from letterround.alikebranches import boxed_branch, parting_number, told_branch
+from letterround.barerows import bare_row, rounds_over
 from letterround.boxcounts import count_in, index_in, ledger_at
 from letterround.boxes import box_paper, greatest_in, path_numbers, sure_paths
+from letterround.branches import Branch, bare_pair, hung, inner_ledger, pair_at
 from letterround.builtrounds import are_rings, built_from, built_round, fitted
 from letterround.caps import greatest_beneath, holders, lets_through
+from letterround.corridors import Corridor, bare_spread, corridor_lets, spread_behind
 from letterround.counting import count_holding, count_orders, count_rounds, factors, first_table
 from letterround.courselengths import (longest_course, longest_ends, near_end_house, shortest_course, shortest_ends)
 from letterround.coursenumbers import course_paces, least_passes, most_passes
 from letterround.courserule import course_ends, course_fault, course_with, odd_houses
 from letterround.courses import closed, is_passes, opened, passes_of, weights
+from letterround.errands import errands_fault, errands_with
 from letterround.goingon import lost_at, next_houses, run_picker
 from letterround.greatest import greatest_ledger, is_wide, least_ledger
 from letterround.inall import letters_between
@@ -17,11 +22,15 @@ from letterround.ladders import is_ladder, ladder, stretches
 from letterround.lengths import (gathering, longest_round, middles, near_house, one_more, shortest_round, walk_length)
 from letterround.letterboxes import gone_span, house_span, is_in, letterbox_paper, sides, some_pair
 from letterround.letters import is_letters, letters_beyond, letters_of
+from letterround.lotchanges import lot_cut, lot_joined
 from letterround.lots import caps_paper, holding_lot, is_holding
 from letterround.numbering import count_begun, next_round, round_at, round_number
 from letterround.othervillages import built_on, joined_by, part_of, renamed
+from letterround.pathcounts import ends_for, errands_of, run_numbers
+from letterround.roundlots import is_lot, lot_fault, lot_ledger, lot_numbers, lot_of
 from letterround.rounds import is_ledger, is_round, ledger_of, signs_at, walk_of
 from letterround.runs import counts_of, is_counts, is_errands
+from letterround.tellers import can_be_right, fewest_liars, teller_clash
 from letterround.therule import can_be, is_paper, paper_of, parting_paths, round_fault, spare
 from letterround.tolls import cheapest, count_by_paces, dearest, ledger_with
 from letterround.turns import count_rings, turns_of
@@ -39,6 +48,9 @@ CAPS = {("a", "b"): 2, ("b", "c"): 1, ("b", "d"): 1}
 BOX = {("a", "b"): (1, 2), ("b", "c"): (0, 2), ("b", "d"): (1, 1)}
 LETTERBOX = ({"a": (0, 2), "b": (0, 1), "c": (0, 1), "d": (0, 1)},
              {("a", "b"): (2, 2), ("b", "c"): (0, 2), ("b", "d"): (0, 2)})
+TELLERS = [("a", 1), (("b", "a"), 2), ("c", 1), (("b", "c"), 1)]
+NO_B = {"a": 2, "b": 0, "c": 1, "d": 1}
+LOT = [["a", "c"], ["b"], ["d", "a"]]
 CHAIN = Village(["a", "b", "c", "d"], [("a", "b"), ("b", "c"), ("c", "d")])
 
 
@@ -129,6 +141,8 @@ def calls():
         *course_calls(),
         *capped_calls(),
         *unknown_calls(),
+        *branch_calls(),
+        *lot_calls(),
     ]
 
 
@@ -196,4 +210,58 @@ def unknown_calls():
         (gone_span, {**box, "path": ("c", "b")}),
         (house_span, {**box, "house": "a"}),
         (letters_between, box),
+    ]
+
+
+def some_branch():
+    """The document's own branch."""
+    village = Village(["r", "x", "y"], [("r", "x"), ("r", "y")])
+    return Branch(village, "r", {"r": 1, "x": 4, "y": 1}, {("r", "x"): (2, 4), ("r", "y"): (1, 1)})
+
+
+def branch_calls():
+    """Those of [68] and [70] to [76]."""
+    branch = some_branch()
+    other = Branch(Village(["p", "q"], [("p", "q")]), "q", {"p": 2, "q": 1}, {("p", "q"): (1, None)})
+    corridor = Corridor(star(), "a", "b", LETTERS, {("b", "d"): (0, 1)})
+    return [
+        (can_be_right, {"village": star(), "tellers": TELLERS}),
+        (teller_clash, {"village": star(), "tellers": TELLERS}),
+        (fewest_liars, {"village": star(), "tellers": TELLERS}),
+        (fewest_liars, {"village": star(), "tellers": []}),
+        (Branch, {"village": star(), "rim": "b", "letters": LETTERS, "boxes": {("b", "d"): (1, 2), ("a", "b"): (0, None)}}),
+        (inner_ledger, {"branch": branch, "number": 3}),
+        (bare_pair, {"branch": branch}),
+        (pair_at, {"number": 1, "pairs": [(4, 4), (1, 1), (0, 0)]}),
+        (hung, {"one": branch, "house": "y", "other": other, "box": (0, 2)}),
+        (parting_number, {"one": branch, "other": other}),
+        (told_branch, {"pair": (2, 6)}),
+        (boxed_branch, {"pair": (2, 5)}),
+        (Corridor, {"village": star(), "first": "a", "last": "b", "letters": LETTERS, "boxes": {("b", "d"): (0, 1)}}),
+        (bare_spread, {"corridor": corridor}),
+        (corridor_lets, {"corridor": corridor, "number": 2, "other": 3}),
+        (spread_behind, {"one": (8, 10), "other": (2, 1)}),
+        (bare_row, {"branch": branch}),
+        (rounds_over, {"one": branch, "other": other}),
+    ]
+
+
+def lot_calls():
+    """Those of [78] to [80], [95] and [96]."""
+    both = {"village": star(), "letters": NO_B, "ledger": LEDGER}
+    counts = {"village": star(), "counts": COUNTS}
+    by_path = {"village": star(), "by_path": LEDGER}
+    return [
+        (is_lot, {"village": star(), "letters": LETTERS, "thing": LOT}),
+        (lot_ledger, {"village": star(), "lot": LOT}),
+        (lot_fault, {**both, "ledger": {**LEDGER, ("a", "b"): 3}}),
+        (lot_of, {**both, "number": 2}),
+        (lot_numbers, both),
+        (lot_joined, {"village": star(), "lot": LOT, "first": 2, "second": 0}),
+        (lot_cut, {"village": star(), "lot": [["a", "a", "d"], ["b"]], "index": 0}),
+        (errands_fault, {"village": star(), "counts": (LEDGER, {"a": 0, "b": 0, "c": 1, "d": 1})}),
+        (errands_with, counts),
+        (ends_for, {**by_path, "house": "b"}),
+        (run_numbers, by_path),
+        (errands_of, {**by_path, "number": 3}),
     ]

@@ -61,6 +61,19 @@ FILES = {
     "letterboxes": "is_in(village, box, thing); sides(village, box); letterbox_paper(village, box); "
                    "some_pair(village, box); gone_span(village, box, path); house_span(village, box, house)",
     "inall": "letters_between(village, box)",
+    "tellers": "can_be_right(village, tellers); teller_clash(village, tellers); fewest_liars(village, tellers)",
+    "branches": "Branch(village, rim, letters, boxes); inner_ledger(branch, number); bare_pair(branch); "
+                "pair_at(number, pairs); hung(one, house, other, box)",
+    "alikebranches": "parting_number(one, other); told_branch(pair); boxed_branch(pair)",
+    "corridors": "Corridor(village, first, last, letters, boxes); bare_spread(corridor); "
+                 "corridor_lets(corridor, number, other); spread_behind(one, other)",
+    "barerows": "bare_row(branch); rounds_over(one, other)",
+    "roundlots": "is_lot(village, letters, thing); lot_ledger(village, lot); lot_fault(village, letters, ledger); "
+                 "lot_of(village, letters, ledger, number); lot_numbers(village, letters, ledger)",
+    "lotchanges": "lot_joined(village, lot, first, second); lot_cut(village, lot, index)",
+    "errands": "errands_fault(village, counts); errands_with(village, counts)",
+    "pathcounts": "ends_for(village, by_path, house); run_numbers(village, by_path); "
+                  "errands_of(village, by_path, number)",
 }
 
 
@@ -83,10 +96,16 @@ class Interface(unittest.TestCase):
             for param in inspect.signature(found).parameters.values():
                 self.assertEqual((param.kind, param.default), (param.POSITIONAL_OR_KEYWORD, param.empty))
 
-    def test_methods_of_a_village_are_its_own(self):
-        village = import_module("letterround.villages").Village
-        for name in ("__init__", "houses", "paths", "__len__", "__eq__"):
-            self.assertIn(name, vars(village))
+    def test_methods_of_classes_are_their_own(self):
+        methods = {"villages Village": "houses paths __len__ __eq__", "branches Branch": "village rim letters boxes __eq__",
+                   "corridors Corridor": "village first last letters boxes __eq__"}
+        for place, names in methods.items():
+            file, name = place.split()
+            found = getattr(import_module("letterround." + file), name)
+            for method in ["__init__", *names.split()]:
+                self.assertIn(method, vars(found))
+                if not method.startswith("__"):
+                    self.assertEqual(list(inspect.signature(vars(found)[method]).parameters), ["self"])
 
     def test_each_is_called_by_the_tests_of_what_is_told(self):
         called = {(function.__module__.split(".")[1], function.__name__) for function, _ in calls()}

@@ -151,6 +151,36 @@ class Language(unittest.TestCase):
                 if isinstance(node, ast.Compare) and any(isinstance(part, (ast.Is, ast.IsNot)) for part in node.ops):
                     self.assertTrue(all(isinstance(part, ast.Constant) for part in node.comparators))
 
+    def test_stars_l7(self):
+        for name, tree in trees().items():
+            for node in ast.walk(tree):
+                if isinstance(node, ast.Subscript):
+                    stars = [part for part in ast.walk(node.slice) if isinstance(part, ast.Starred)]
+                    self.assertEqual(stars, [], (name, node.lineno))
+                if isinstance(node, ast.Call):
+                    for part in node.args:
+                        if isinstance(part, ast.Starred):
+                            self.assertIsInstance(part.value, (ast.Name, ast.List, ast.Tuple), (name, node.lineno))
+                    self.assertTrue(all(part.arg for part in node.keywords), (name, node.lineno))
+                if isinstance(node, ast.Dict):
+                    for key, value in zip(node.keys, node.values):
+                        self.assertTrue(key is not None or isinstance(value, ast.Name), (name, node.lineno))
+
+    def test_names_in_comprehensions_l7(self):
+        kinds = (ast.ListComp, ast.DictComp, ast.Lambda)
+        for name, tree in trees().items():
+            for node in ast.walk(tree):
+                if isinstance(node, kinds):
+                    inner = [part for part in ast.walk(node) if isinstance(part, kinds) and part is not node]
+                    bound = {word for part in inner for word in self.bound_by(part)}
+                    self.assertFalse(bound & set(self.bound_by(node)), (name, node.lineno))
+
+    def bound_by(self, node):
+        """The names that a comprehension or a lambda binds itself."""
+        if isinstance(node, ast.Lambda):
+            return [arg.arg for arg in node.args.args]
+        return [part.id for loop in node.generators for part in ast.walk(loop.target) if isinstance(part, ast.Name)]
+
     def test_names_l8_l12_l15_l17(self):
         for name, tree in trees().items():
             top = bound_at_top(tree)

@@ -2,10 +2,13 @@
 
 import unittest
 
+from letterround.barerows import bare_row, rounds_over
+from letterround.branches import Branch, bare_pair, inner_ledger
+from letterround.corridors import Corridor, corridor_lets
 from letterround.errors import PostError
 from letterround.ladders import is_ladder, ladder
 from letterround.villages import Village
-from tests.calls import LEAST, calls
+from tests.calls import BOX, LEAST, LETTERBOX, calls, some_branch
 from tests.helpers import LEDGER, LETTERS, any_objects, star
 
 
@@ -82,6 +85,13 @@ OTHERS = {
     "house": ["b", "c"],
     "number": [0, 1],
     "thing": [None],
+    "lot": [[["a", "b", "a"], ["c"], ["d", "d", "c"]]],
+    "tellers": [[("a", 0), ("b", 0), ("c", 0), ("d", 0)], []],
+    "counts": [({("a", "b"): 2, ("b", "c"): 2, ("b", "d"): 2}, {"a": 2, "b": 0, "c": 2, "d": 2})],
+    "by_path": [{("a", "b"): 3, ("b", "c"): 1, ("b", "d"): 0}],
+    "box": [BOX, LETTERBOX],
+    "boxes": [{}, {("b", "c"): (0, 4)}],
+    "rim": ["a"],
 }
 
 
@@ -119,7 +129,7 @@ class Told(unittest.TestCase):
 
     def test_all_interface_functions_are_called_here(self):
         names = {function.__name__ for function, _ in calls()}
-        self.assertEqual(len(names), 104)
+        self.assertEqual(len(names), 133)
 
     def test_a_ladder_shares_nothing_with_what_is_passed(self):
         high, low = dict(LEDGER), dict(LEAST)
@@ -149,6 +159,28 @@ class Told(unittest.TestCase):
             for more in told + told[::-1] + told:
                 here = outcome(function, {"village": village, **more})
                 self.assertTrue(same(here, outcome(function, {"village": star(), **copied(more)})), function.__name__)
+
+    def test_one_branch_and_one_corridor_asked_in_turns(self):
+        branch = some_branch()
+        around = Branch(Village(["p"], []), "p", {"p": 3}, {})
+        numbers = (1, 6, 2, 7, 1, 3)
+        told = [inner_ledger(some_branch(), number) for number in numbers]
+        for _ in range(2):
+            spoil(branch.letters())
+            spoil(branch.boxes())
+            self.assertEqual([inner_ledger(branch, number) for number in numbers], told)
+            self.assertEqual((bare_pair(branch), bare_row(branch)), (bare_pair(some_branch()), bare_row(some_branch())))
+            self.assertEqual(rounds_over(branch, around), rounds_over(some_branch(), around))
+            spoil(bare_row(branch))
+            self.assertEqual(branch, some_branch())
+        corridor = Corridor(star(), "a", "c", LETTERS, {("b", "d"): (1, 1)})
+        for _ in range(2):
+            lets = [corridor_lets(corridor, one, other) for one in range(1, 9) for other in range(1, 9)]
+            again = Corridor(star(), "a", "c", dict(LETTERS), {("b", "d"): [1, 1]})
+            self.assertEqual(lets, [corridor_lets(again, one, other) for one in range(1, 9) for other in range(1, 9)])
+            spoil(corridor.boxes())
+            spoil(corridor.letters())
+            self.assertEqual(corridor, again)
 
     def test_any_objects_are_not_changed_by_being_asked_about(self):
         things = any_objects()
