@@ -225,6 +225,12 @@ class Spans(unittest.TestCase):
         self.assertEqual(house_span(star(), box, "a"), (2, 2))
         self.assertEqual(letters_between(two(), ({"a": (0, 9), "x": (0, 9)}, {("a", "x"): (4, 5)})), (8, 18))
 
+    def test_the_cheaper_one_of_two_further_paths_is_gone_more_often(self):
+        for cheap, dear in (("c", "d"), ("d", "c")):
+            box = ({"a": (0, 3), "b": (0, 0), cheap: (3, 3), dear: (0, 2)},
+                   {("a", "b"): (3, 3), ("b", "c"): (1, 2), ("b", "d"): (1, 2)})
+            self.assertEqual(letters_between(star(), box), (7, 8))
+
     def test_a_number_of_houses_in_one_row(self):
         village = Village(list("abcde"), [("a", "b"), ("b", "c"), ("c", "d"), ("d", "e")])
         box = ({house: (0, 4) for house in "abcde"}, {path: (1, 3) for path in village.paths()})
