@@ -90,10 +90,18 @@ def fitted(village, rings):
 
 
 def joined(village, rings):
-    """The round of rings that agree: each one's pieces stand in place of its signs in the next one towards the root."""
+    """The round of rings that agree."""
     # Some house has a sign of its own, and none that has is idle: all that is gone hangs together with it. What
     # idle lists are cut to is never asked for.
-    root = [house for house in village.houses() if house in rings[house]][0]
+    return joined_at(village, rings, [house for house in village.houses() if house in rings[house]][0])
+
+
+def joined_at(village, rings, root):
+    """The round of rings that agree: each one's pieces stand in place of its signs in the next one towards the root.
+
+    It begins as root's ring does; of each other house the first piece is that behind the ring's first sign, if this
+    leads towards root.
+    """
     pieces = {}
     for house, back in reversed(rooted(village, root)):
         if back is None or back in rings[house]:

@@ -12,7 +12,11 @@ def members_of(numbers):
 
 def in_pairs(numbers):
     """The members of signs, so many of each, in pairs of unlike signs: none has more than half of all."""
-    members = members_of(numbers)
+    return halved(members_of(numbers))
+
+
+def halved(members):
+    """Members in pairs, each with the one half of all further on: so two of one sign are in none."""
     half = len(members) // 2
     return [[members[place], members[place + half]] for place in range(half)]
 

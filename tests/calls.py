@@ -1,5 +1,6 @@
 """One ordinary call, or more, of each function of the interface that is there by now, by its parameters' names."""
 
+from letterround.ahead import can_be_ahead, fewest_ahead, sure_order
 from letterround.alikebranches import boxed_branch, parting_number, told_branch
 from letterround.barerows import bare_row, rounds_over
 from letterround.boxcounts import count_in, index_in, ledger_at
@@ -13,10 +14,15 @@ from letterround.courselengths import (longest_course, longest_ends, near_end_ho
 from letterround.coursenumbers import course_paces, least_passes, most_passes
 from letterround.courserule import course_ends, course_fault, course_with, odd_houses
 from letterround.courses import closed, is_passes, opened, passes_of, weights
+from letterround.earlyrounds import early_round, late_round
+from letterround.endsalone import ends_fault, longest_errands, path_range, rim_range, shortest_errands
 from letterround.errands import errands_fault, errands_with
+from letterround.firsthours import first_hour, first_hours, last_hour, last_hours, least_stretch
 from letterround.goingon import lost_at, next_houses, run_picker
 from letterround.greatest import greatest_ledger, is_wide, least_ledger
+from letterround.hours import bar_between, can_follow, hours_of, tight_paths, whole_hours
 from letterround.inall import letters_between
+from letterround.joined import by_both, errands_between, joined_range, possible_runs, runs_range, sure_runs
 from letterround.lacks import can_get, count_letters, gone_apart, lacks, least_letters
 from letterround.ladders import is_ladder, ladder, stretches
 from letterround.lengths import (gathering, longest_round, middles, near_house, one_more, shortest_round, walk_length)
@@ -25,7 +31,10 @@ from letterround.letters import is_letters, letters_beyond, letters_of
 from letterround.lotchanges import lot_cut, lot_joined
 from letterround.lots import caps_paper, holding_lot, is_holding
 from letterround.numbering import count_begun, next_round, round_at, round_number
+from letterround.offices import are_bags, bag_fault, bag_numbers, bags_of
 from letterround.othervillages import built_on, joined_by, part_of, renamed
+from letterround.pairings import all_pairings, count_apart, count_pairings, is_pairing, pairing_at, pairing_number
+from letterround.pairlots import pair_lot, pair_numbers
 from letterround.pathcounts import ends_for, errands_of, run_numbers
 from letterround.roundlots import is_lot, lot_fault, lot_ledger, lot_numbers, lot_of
 from letterround.rounds import is_ledger, is_round, ledger_of, signs_at, walk_of
@@ -36,12 +45,14 @@ from letterround.tolls import cheapest, count_by_paces, dearest, ledger_with
 from letterround.turns import count_rings, turns_of
 from letterround.villages import Village, beside
 from letterround.ways import beyond, way
+from letterround.weaves import all_errands, count_weaves, is_weave, runs_by, weave_at, weave_number
 from letterround.words import count_framed, count_words
 from tests.helpers import HOUSES, LEDGER, LETTERS, PATHS, ROUND, star, tree, two
 
 LEAST = {path: 1 for path in LEDGER}
 RINGS = {"a": ["b", "a", "b", "a"], "b": ["a", "c", "a", "b", "d"], "c": ["b", "c"], "d": ["d", "b"]}
 COUNTS = ({("a", "b"): 2, ("b", "c"): 1, ("b", "d"): 1}, {"a": 2, "b": 0, "c": 1, "d": 1})
+PAIRS = ({("a", "b"): 2, ("b", "c"): 2, ("b", "d"): 2}, {"a": 2, "b": 0, "c": 2, "d": 2})
 TOLLS = {("a", "b"): [3, -2], ("b", "c"): [0], ("b", "d"): [4]}
 PASSES = {("a", "b"): 4, ("b", "c"): 1, ("b", "d"): 1}
 CAPS = {("a", "b"): 2, ("b", "c"): 1, ("b", "d"): 1}
@@ -143,6 +154,10 @@ def calls():
         *unknown_calls(),
         *branch_calls(),
         *lot_calls(),
+        *bag_calls(),
+        *hour_calls(),
+        *joined_calls(),
+        *woven_calls(),
     ]
 
 
@@ -264,4 +279,83 @@ def lot_calls():
         (ends_for, {**by_path, "house": "b"}),
         (run_numbers, by_path),
         (errands_of, {**by_path, "number": 3}),
+    ]
+
+
+def bag_calls():
+    """Those of [81] to [83]."""
+    both = {"village": star(), "letters": NO_B, "ledger": LEDGER}
+    office = {**both, "house": "b"}
+    return [
+        (pair_lot, {**both, "ledger": {**LEAST, ("a", "b"): 0}, "number": 2}),
+        (pair_numbers, both),
+        (are_bags, {**office, "thing": [["a", "c"], ("a", "d")]}),
+        (bags_of, {**office, "number": 3}),
+        (bag_numbers, office),
+        (bag_fault, {**office, "number": 5}),
+        (bag_fault, {**office, "ledger": {**LEDGER, ("a", "b"): 3}, "number": 1}),
+    ]
+
+
+def hour_calls():
+    """Those of [85] to [93]."""
+    both = {"village": star(), "letters": LETTERS, "ledger": LEDGER}
+    timed = {**both, "lengths": LEAST}
+    return [
+        (hours_of, {"village": star(), "row": ROUND, "lengths": LEAST}),
+        (whole_hours, {"village": star(), "ledger": LEDGER, "lengths": LEAST}),
+        (tight_paths, {**both, "house": "a"}),
+        (can_follow, {**both, "one": "a", "other": "c"}),
+        (bar_between, {**both, "one": "a", "other": "a"}),
+        (least_stretch, {**timed, "house": "a", "far": "b"}),
+        (first_hour, {**timed, "start": "a", "house": "c"}),
+        (first_hours, {**timed, "start": "a"}),
+        (last_hour, {**timed, "start": "a", "house": "a"}),
+        (last_hours, {**timed, "start": "a"}),
+        (fewest_ahead, {**both, "start": "a", "house": "c"}),
+        (can_be_ahead, {**both, "start": "a", "one": "c", "other": "b"}),
+        (sure_order, {**both, "start": "a"}),
+        (early_round, {**timed, "start": "a", "house": "c"}),
+        (late_round, {**timed, "start": "a", "house": "a"}),
+    ]
+
+
+def joined_calls():
+    """Those of [97] to [103]."""
+    counts = {"village": star(), "counts": COUNTS}
+    ends = {"village": star(), "ends": {"a": 2, "b": 2, "c": 1, "d": 3}}
+    return [
+        (joined_range, {**counts, "house": "b", "one": "a", "other": "c"}),
+        (runs_range, {**counts, "one": "a", "other": "c"}),
+        (errands_between, {**counts, "counts": (PAIRS[0], {**PAIRS[1], "b": 2}), "one": "a", "other": "c", "number": 1}),
+        (sure_runs, counts),
+        (possible_runs, counts),
+        (by_both, {**counts, "first": ("b", "a"), "second": ("b", "d")}),
+        (ends_fault, {**ends, "ends": {"a": 5, "b": 0, "c": 1, "d": 2}}),
+        (rim_range, {**ends, "house": "a", "other": "b"}),
+        (path_range, {**ends, "one": "b", "other": "a"}),
+        (longest_errands, ends),
+        (shortest_errands, ends),
+    ]
+
+
+def woven_calls():
+    """Those of [107] to [110]."""
+    counts = {"village": star(), "counts": PAIRS}
+    pairing = [(("a", 0), ("c", 1)), (("d", 0), ("a", 1)), (("c", 0), ("d", 1))]
+    ends = {house: [((house, 1), ("b", 0)), ((house, 0), ("b", 1))] for house in "acd"}
+    weave = {**ends, "b": pairing}
+    return [
+        (all_pairings, {**counts, "house": "b"}),
+        (is_pairing, {**counts, "house": "b", "thing": pairing}),
+        (count_pairings, {**counts, "house": "b"}),
+        (count_apart, {"members": [3, 2, 2, 1]}),
+        (pairing_at, {**counts, "house": "b", "number": 3}),
+        (pairing_number, {**counts, "house": "b", "pairing": pairing}),
+        (is_weave, {**counts, "thing": weave}),
+        (runs_by, {**counts, "weave": weave}),
+        (count_weaves, counts),
+        (weave_at, {**counts, "number": 9}),
+        (weave_number, {**counts, "weave": weave}),
+        (all_errands, {**counts, "counts": (PAIRS[0], {**PAIRS[1], "b": 2})}),
     ]

@@ -74,6 +74,32 @@ FILES = {
     "errands": "errands_fault(village, counts); errands_with(village, counts)",
     "pathcounts": "ends_for(village, by_path, house); run_numbers(village, by_path); "
                   "errands_of(village, by_path, number)",
+    "pairlots": "pair_lot(village, letters, ledger, number); pair_numbers(village, letters, ledger)",
+    "offices": "are_bags(village, letters, ledger, house, thing); bags_of(village, letters, ledger, house, number); "
+               "bag_numbers(village, letters, ledger, house); bag_fault(village, letters, ledger, house, number)",
+    "hours": "hours_of(village, row, lengths); whole_hours(village, ledger, lengths); "
+             "tight_paths(village, letters, ledger, house); can_follow(village, letters, ledger, one, other); "
+             "bar_between(village, letters, ledger, one, other)",
+    "firsthours": "least_stretch(village, letters, ledger, lengths, house, far); "
+                  "first_hour(village, letters, ledger, lengths, start, house); "
+                  "first_hours(village, letters, ledger, lengths, start); "
+                  "last_hour(village, letters, ledger, lengths, start, house); "
+                  "last_hours(village, letters, ledger, lengths, start)",
+    "ahead": "fewest_ahead(village, letters, ledger, start, house); "
+             "can_be_ahead(village, letters, ledger, start, one, other); sure_order(village, letters, ledger, start)",
+    "earlyrounds": "early_round(village, letters, ledger, lengths, start, house); "
+                   "late_round(village, letters, ledger, lengths, start, house)",
+    "joined": "joined_range(village, counts, house, one, other); runs_range(village, counts, one, other); "
+              "errands_between(village, counts, one, other, number); sure_runs(village, counts); "
+              "possible_runs(village, counts); by_both(village, counts, first, second)",
+    "endsalone": "ends_fault(village, ends); rim_range(village, ends, house, other); "
+                 "path_range(village, ends, one, other); longest_errands(village, ends); "
+                 "shortest_errands(village, ends)",
+    "pairings": "all_pairings(village, counts, house); is_pairing(village, counts, house, thing); "
+                "count_pairings(village, counts, house); count_apart(members); "
+                "pairing_at(village, counts, house, number); pairing_number(village, counts, house, pairing)",
+    "weaves": "is_weave(village, counts, thing); runs_by(village, counts, weave); count_weaves(village, counts); "
+              "weave_at(village, counts, number); weave_number(village, counts, weave); all_errands(village, counts)",
 }
 
 

@@ -92,6 +92,11 @@ OTHERS = {
     "box": [BOX, LETTERBOX],
     "boxes": [{}, {("b", "c"): (0, 4)}],
     "rim": ["a"],
+    "start": ["b", "d"],
+    "ends": [{"a": 1, "b": 1, "c": 1, "d": 1}],
+    "begun": [["a"], []],
+    "one": ["a", "d"],
+    "other": ["d", "b"],
 }
 
 
@@ -129,7 +134,7 @@ class Told(unittest.TestCase):
 
     def test_all_interface_functions_are_called_here(self):
         names = {function.__name__ for function, _ in calls()}
-        self.assertEqual(len(names), 133)
+        self.assertEqual(len(names), 177)
 
     def test_a_ladder_shares_nothing_with_what_is_passed(self):
         high, low = dict(LEDGER), dict(LEAST)
