@@ -51,8 +51,7 @@ def joined_range(village, counts, house, one, other):
 
 def turns_of_way(row):
     """The list of the triples of a house on a way, the sign by which it is come to, and that by which it is left."""
-    ends = [row[0], *row, row[-1]]
-    return list(zip(row, ends, row[1:] + row[-1:]))
+    return list(zip(row, [row[0], *row], row[1:] + row[-1:]))
 
 
 def span_along(village, counts, turns):

@@ -63,6 +63,24 @@ class EndsAlone(unittest.TestCase):
                 here = sum(ends[house] for house in beyond(village, other, one))
                 self.assertEqual(longest.count((one, other)), min(here, sum(ends.values()) - here))
 
+    def test_shortest_where_not_all_paths_can_have_their_least(self):
+        village = Village(list("abcdefgh"), [("a", "b"), ("a", "c"), ("c", "d"), ("c", "e"), ("a", "f"), ("f", "g"), ("f", "h")])
+        for numbers in ((0, 2, 0, 1, 1, 0, 1, 1), (0, 3, 0, 1, 2, 0, 1, 1), (1, 3, 0, 1, 1, 0, 1, 1), (0, 1, 0, 2, 2, 0, 0, 1),
+                        (0, 4, 0, 1, 1, 0, 1, 1), (2, 2, 1, 1, 1, 1, 0, 0), (0, 0, 0, 3, 1, 0, 2, 2), (3, 0, 0, 1, 1, 1, 1, 1)):
+            ends = dict(zip(village.houses(), numbers))
+            lengths = [len(steps_of(village, errands)) for errands in all_errands_with(village, ends)]
+            self.check(village, ends, shortest_errands(village, ends), min(lengths))
+            self.check(village, ends, longest_errands(village, ends), max(lengths))
+
+    def test_shortest_in_longer_villages(self):
+        cases = [("ab bc cd de", (3, 2, 1, 0, 4)), ("ab bc bd de ef eg", (2, 0, 2, 3, 2, 1, 0)),
+                 ("ab ah bc cd de ef fg hi", (2, 0, 1, 0, 1, 0, 0, 2, 2)), ("ab bc cd de df fg gh", (0, 2, 2, 1, 2, 1, 0, 0))]
+        for paths, numbers in cases:
+            village = Village(list("abcdefghi")[:len(numbers)], [tuple(path) for path in paths.split()])
+            ends = dict(zip(village.houses(), numbers))
+            lengths = [len(steps_of(village, errands)) for errands in all_errands_with(village, ends)]
+            self.check(village, ends, shortest_errands(village, ends), min(lengths))
+
     def naive_fault(self, ends):
         if sum(ends.values()) % 2:
             return ("odd",)

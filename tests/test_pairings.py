@@ -114,6 +114,7 @@ class Pairings(unittest.TestCase):
         self.assertEqual((count_apart([]), count_apart([0, 0]), count_apart([1]), count_apart([3, 1]), count_apart([2, 2])),
                          (1, 1, 0, 0, 2))
         self.assertEqual((count_apart((1, 1, 1)), count_apart([1, 1, 1, 1])), (0, 3))
+        self.assertEqual((count_apart([6, 6]), count_apart([7, 2, 5]), count_apart([8, 8])), (720, 5040, 40320))
         self.assertEqual((count_apart([999999999, 1]), count_apart([999999999])), (0, 0))
         self.assertEqual((all_pairings(star(), NONE, "b"), pairing_at(star(), NONE, "b", 0)), ([[]], []))
         self.assertEqual((all_pairings(lone(), ({}, {"x": 2}), "x"), count_pairings(lone(), ({}, {"x": 0}), "x")), ([], 1))
