@@ -14,14 +14,20 @@ from letterround.courselengths import (longest_course, longest_ends, near_end_ho
 from letterround.coursenumbers import course_paces, least_passes, most_passes
 from letterround.courserule import course_ends, course_fault, course_with, odd_houses
 from letterround.courses import closed, is_passes, opened, passes_of, weights
+from letterround.crossings import count_with_crossings, crossings_of, mean_runs, runs_between
 from letterround.earlyrounds import early_round, late_round
 from letterround.endsalone import ends_fault, longest_errands, path_range, rim_range, shortest_errands
 from letterround.errands import errands_fault, errands_with
+from letterround.exchanges import exchange_distance, exchange_row, exchanges
 from letterround.firsthours import first_hour, first_hours, last_hour, last_hours, least_stretch
+from letterround.flows import errands_by, flows_of, flows_paper
 from letterround.goingon import lost_at, next_houses, run_picker
 from letterround.greatest import greatest_ledger, is_wide, least_ledger
+from letterround.hamlets import Hamlet
+from letterround.hamlettexts import read_hamlet, write_hamlet
 from letterround.hours import bar_between, can_follow, hours_of, tight_paths, whole_hours
 from letterround.inall import letters_between
+from letterround.joinchances import end_chances, joined_chances, mean_paths, run_chances
 from letterround.joined import by_both, errands_between, joined_range, possible_runs, runs_range, sure_runs
 from letterround.lacks import can_get, count_letters, gone_apart, lacks, least_letters
 from letterround.ladders import is_ladder, ladder, stretches
@@ -36,11 +42,17 @@ from letterround.othervillages import built_on, joined_by, part_of, renamed
 from letterround.pairings import all_pairings, count_apart, count_pairings, is_pairing, pairing_at, pairing_number
 from letterround.pairlots import pair_lot, pair_numbers
 from letterround.pathcounts import ends_for, errands_of, run_numbers
+from letterround.roundchances import (drawn_round, first_chances, ledger_chance, mean_passes, mean_walk, next_chances,
+                                      path_chances, some_chance, walk_chance)
 from letterround.roundlots import is_lot, lot_fault, lot_ledger, lot_numbers, lot_of
 from letterround.rounds import is_ledger, is_round, ledger_of, signs_at, walk_of
 from letterround.runs import counts_of, is_counts, is_errands
+from letterround.spans import (branch_numbers, end_span, fewest_possible, is_possible, most_possible, path_span,
+                               possible_counts)
+from letterround.stepsalone import few_ends, fewest_by_steps, most_by_steps
 from letterround.tellers import can_be_right, fewest_liars, teller_clash
 from letterround.therule import can_be, is_paper, paper_of, parting_paths, round_fault, spare
+from letterround.toldends import fewest_returns, flows_with, greatest_returns, more_one_way
 from letterround.tolls import cheapest, count_by_paces, dearest, ledger_with
 from letterround.turns import count_rings, turns_of
 from letterround.villages import Village, beside
@@ -61,6 +73,8 @@ LETTERBOX = ({"a": (0, 2), "b": (0, 1), "c": (0, 1), "d": (0, 1)},
              {("a", "b"): (2, 2), ("b", "c"): (0, 2), ("b", "d"): (0, 2)})
 TELLERS = [("a", 1), (("b", "a"), 2), ("c", 1), (("b", "c"), 1)]
 NO_B = {"a": 2, "b": 0, "c": 1, "d": 1}
+SPANS = ({("a", "b"): (0, 3), ("b", "c"): (1, 2), ("b", "d"): (0, 3)}, {"a": (1, 2), "b": (0, 2), "c": (1, 1), "d": (1, 4)})
+TOLD = {"a": (1, 2), "b": (1, 1), "c": (1, 1), "d": (2, 1)}
 LOT = [["a", "c"], ["b"], ["d", "a"]]
 CHAIN = Village(["a", "b", "c", "d"], [("a", "b"), ("b", "c"), ("c", "d")])
 
@@ -158,6 +172,11 @@ def calls():
         *hour_calls(),
         *joined_calls(),
         *woven_calls(),
+        *crossing_calls(),
+        *span_calls(),
+        *flow_calls(),
+        *chance_calls(),
+        *hamlet_calls(),
     ]
 
 
@@ -358,4 +377,99 @@ def woven_calls():
         (weave_at, {**counts, "number": 9}),
         (weave_number, {**counts, "weave": weave}),
         (all_errands, {**counts, "counts": (PAIRS[0], {**PAIRS[1], "b": 2})}),
+    ]
+
+
+def crossing_calls():
+    """Those of [111] to [113]."""
+    counts = {"village": star(), "counts": PAIRS}
+    one, other = [weave_at(star(), PAIRS, number) for number in (9, 46)]
+    crossings = {("a", "a", "b"): 2, ("b", "a", "b"): 0, ("b", "a", "c"): 1, ("b", "a", "d"): 1, ("b", "b", "c"): 0,
+                 ("b", "b", "d"): 0, ("b", "c", "d"): 1, ("c", "b", "c"): 2, ("d", "b", "d"): 2}
+    return [
+        (crossings_of, {**counts, "weave": one}),
+        (count_with_crossings, {**counts, "crossings": crossings}),
+        (runs_between, {**counts, "one": "a", "other": "c"}),
+        (mean_runs, {**counts, "counts": (PAIRS[0], {**PAIRS[1], "b": 2}), "one": "a", "other": "c"}),
+        (exchanges, {**counts, "weave": one}),
+        (exchange_distance, {**counts, "one": one, "other": other}),
+        (exchange_row, {**counts, "one": one, "other": other}),
+    ]
+
+
+def span_calls():
+    """Those of [115] to [117]."""
+    spans = {"village": star(), "spans": SPANS}
+    return [
+        (is_possible, {**spans, "thing": COUNTS}),
+        (possible_counts, spans),
+        (branch_numbers, {**spans, "house": "a", "other": "b"}),
+        (path_span, {**spans, "house": "b", "other": "c"}),
+        (end_span, {**spans, "house": "b"}),
+        (fewest_possible, spans),
+        (most_possible, spans),
+    ]
+
+
+def flow_calls():
+    """Those of [118] to [122]."""
+    flows = {"village": star(), "flows": flows_of(star(), [("a", "c"), ("d", "a"), ("c", "a")])}
+    steps = {"village": star(), "steps": {pair: 1 for path in PATHS for pair in (path, path[::-1])}}
+    told = {"village": star(), "told": TOLD}
+    return [
+        (flows_of, {"village": star(), "errands": [("a", "c"), ("d", "a"), ("c", "a")]}),
+        (flows_paper, {**flows, "flows": (flows["flows"][0], TOLD)}),
+        (errands_by, flows),
+        (fewest_by_steps, steps),
+        (most_by_steps, steps),
+        (few_ends, steps),
+        (more_one_way, {**told, "house": "b", "other": "c"}),
+        (flows_with, {**told, "returns": LEDGER}),
+        (greatest_returns, {**told, "caps": CAPS}),
+        (fewest_returns, told),
+    ]
+
+
+def last_of(many):
+    """Tells the last number below that."""
+    return many - 1
+
+
+def chance_calls():
+    """Those of [125] to [133]."""
+    both = {"village": star(), "letters": LETTERS, "ledger": LEDGER}
+    letters = {"village": star(), "letters": LETTERS}
+    counts = {"village": star(), "counts": (PAIRS[0], {**PAIRS[1], "b": 2})}
+    return [
+        (drawn_round, {**both, "chooser": last_of}),
+        (path_chances, {**letters, "one": "b", "other": "a"}),
+        (mean_passes, letters),
+        (ledger_chance, both),
+        (some_chance, {**letters, "some": {("b", "c"): 1, ("a", "b"): 2}}),
+        (mean_walk, {**letters, "lengths": LEAST}),
+        (walk_chance, {**letters, "lengths": LEAST}),
+        (first_chances, both),
+        (next_chances, {**both, "begun": ["c", "a"]}),
+        (joined_chances, {**counts, "house": "b", "one": "a", "other": "c"}),
+        (end_chances, {**counts, "house": "a"}),
+        (mean_paths, {**counts, "house": "a"}),
+        (run_chances, {**counts, "one": "a", "other": "c"}),
+    ]
+
+
+def some_hamlet():
+    """A hamlet with letters, a postman who is out, and questions."""
+    hamlet = Hamlet("b")
+    for deed in (("build", "d", "b"), ("build", "a", "b"), ("out", "d"), ("bring", "a"), ("watch", ("spare", "a", "b")),
+                 ("hold", ("parting",))):
+        hamlet.do(deed)
+    return hamlet
+
+
+def hamlet_calls():
+    """Those of [135] and [141]."""
+    return [
+        (Hamlet, {"name": "b"}),
+        (write_hamlet, {"hamlet": some_hamlet()}),
+        (read_hamlet, {"text": write_hamlet(some_hamlet())}),
     ]

@@ -100,6 +100,26 @@ FILES = {
                 "pairing_at(village, counts, house, number); pairing_number(village, counts, house, pairing)",
     "weaves": "is_weave(village, counts, thing); runs_by(village, counts, weave); count_weaves(village, counts); "
               "weave_at(village, counts, number); weave_number(village, counts, weave); all_errands(village, counts)",
+    "crossings": "crossings_of(village, counts, weave); count_with_crossings(village, counts, crossings); "
+                 "runs_between(village, counts, one, other); mean_runs(village, counts, one, other)",
+    "exchanges": "exchanges(village, counts, weave); exchange_distance(village, counts, one, other); "
+                 "exchange_row(village, counts, one, other)",
+    "spans": "is_possible(village, spans, thing); possible_counts(village, spans); "
+             "branch_numbers(village, spans, house, other); path_span(village, spans, house, other); "
+             "end_span(village, spans, house); fewest_possible(village, spans); most_possible(village, spans)",
+    "flows": "flows_of(village, errands); flows_paper(village, flows); errands_by(village, flows)",
+    "stepsalone": "fewest_by_steps(village, steps); most_by_steps(village, steps); few_ends(village, steps)",
+    "toldends": "more_one_way(village, told, house, other); flows_with(village, told, returns); "
+                "greatest_returns(village, told, caps); fewest_returns(village, told)",
+    "roundchances": "drawn_round(village, letters, ledger, chooser); path_chances(village, letters, one, other); "
+                    "mean_passes(village, letters); ledger_chance(village, letters, ledger); "
+                    "some_chance(village, letters, some); mean_walk(village, letters, lengths); "
+                    "walk_chance(village, letters, lengths); first_chances(village, letters, ledger); "
+                    "next_chances(village, letters, ledger, begun)",
+    "joinchances": "joined_chances(village, counts, house, one, other); end_chances(village, counts, house); "
+                   "mean_paths(village, counts, house); run_chances(village, counts, one, other)",
+    "hamlets": "Hamlet(name)",
+    "hamlettexts": "write_hamlet(hamlet); read_hamlet(text)",
 }
 
 
@@ -121,6 +141,17 @@ class Interface(unittest.TestCase):
             self.assertEqual(list(inspect.signature(found).parameters), params, name)
             for param in inspect.signature(found).parameters.values():
                 self.assertEqual((param.kind, param.default), (param.POSITIONAL_OR_KEYWORD, param.empty))
+
+    def test_methods_of_hamlets_are_their_own(self):
+        methods = {"now": "", "letters": "", "book": "", "postman": "", "watched": "", "do": "deed", "is_question": "thing",
+                   "answer": "question", "would": "deed", "mending_paths": "", "count": "", "undo": "", "again": "", "deeds": "",
+                   "at": "number", "copy": "", "trial": "work", "__eq__": "other"}
+        for method, parameter in methods.items():
+            found = vars(import_module("letterround.hamlets").Hamlet)[method]
+            self.assertEqual(list(inspect.signature(found).parameters), ["self", *parameter.split()])
+
+    def test_no_file_of_the_interface_is_missing(self):
+        self.assertEqual((len(FILES), len(listed())), (57, 217))
 
     def test_methods_of_classes_are_their_own(self):
         methods = {"villages Village": "houses paths __len__ __eq__", "branches Branch": "village rim letters boxes __eq__",

@@ -20,8 +20,8 @@ BARRED = ("register mro elements open input law version_info with_traceback add_
           "locals methodcaller os quit setattr super type vars sys").split()
 WORDS = ("type typing typing_extensions enum Enum IntEnum StrEnum Flag IntFlag Generic Protocol ABC ABCMeta namedtuple "
          "NamedTuple TypedDict TYPE_CHECKING abstractmethod").split()
-NOT_USED = (ast.AsyncFor, ast.AsyncFunctionDef, ast.AsyncWith, ast.Await, ast.Global, ast.Nonlocal, ast.Try, ast.With,
-            ast.Match, ast.GeneratorExp, ast.Yield, ast.YieldFrom, ast.NamedExpr, ast.JoinedStr, ast.Set, ast.SetComp,
+NOT_USED = (ast.AsyncFor, ast.AsyncFunctionDef, ast.AsyncWith, ast.Await, ast.Global, ast.Nonlocal, ast.With, ast.Match,
+            ast.GeneratorExp, ast.Yield, ast.YieldFrom, ast.NamedExpr, ast.JoinedStr, ast.Set, ast.SetComp,
             ast.Import, ast.Div, ast.MatMult, ast.Pow, ast.AnnAssign)
 AT_ONCE = "list tuple dict sorted sum any all enumerate zip".split()
 LOOPS = (ast.ListComp, ast.DictComp)
@@ -93,9 +93,46 @@ class Language(unittest.TestCase):
                 if isinstance(node, ast.Expr):
                     self.assertTrue(place == 0 and isinstance(node.value, ast.Constant))
                 elif isinstance(node, ast.Assign):
-                    self.assertTrue(len(node.targets) == 1 and isinstance(node.value, ast.Constant))
+                    defined = [part.name for part in tree.body[:place] if isinstance(part, ast.FunctionDef)]
+                    self.assertTrue(len(node.targets) == 1 and self.is_plain(node.value, defined), name)
                 else:
                     self.assertIsInstance(node, (ast.ImportFrom, ast.FunctionDef, ast.ClassDef))
+
+    def is_plain(self, value, defined):
+        """Tells whether a value at module level is a literal, a tuple of such, or a dict from literals to these."""
+        if isinstance(value, ast.Dict):
+            return all(isinstance(key, ast.Constant) for key in value.keys) and all(
+                isinstance(part, (ast.Constant, ast.Tuple, ast.Name)) and self.is_plain(part, defined)
+                for part in value.values)
+        if isinstance(value, ast.Tuple):
+            return all(isinstance(part, ast.Constant) for part in value.elts)
+        return isinstance(value, ast.Constant) or (isinstance(value, ast.Name) and value.id in defined)
+
+    def test_tables_are_only_read_l15(self):
+        for name, tree in trees().items():
+            tables = [node.targets[0].id for node in tree.body
+                      if isinstance(node, ast.Assign) and isinstance(node.value, ast.Dict)]
+            above = parents_of(tree)
+            for node in ast.walk(tree):
+                if isinstance(node, ast.Name) and node.id in tables and isinstance(node.ctx, ast.Load):
+                    there = above[node]
+                    if isinstance(there, ast.Subscript):
+                        self.assertIsInstance(there.ctx, ast.Load, (name, node.lineno))
+                        self.assertNotIsInstance(above[there], ast.Attribute, (name, node.lineno))
+                        self.assertFalse(isinstance(above[there], ast.Call) and above[there].func is there)
+                    else:
+                        self.assertIsInstance(there, ast.Compare, (name, node.lineno))
+                        self.assertIsInstance(there.ops[0], (ast.In, ast.NotIn), (name, node.lineno))
+
+    def test_finally_l6(self):
+        for name, tree in trees().items():
+            for node in ast.walk(tree):
+                if isinstance(node, ast.Try):
+                    self.assertEqual((node.handlers, node.orelse, len(node.finalbody)), ([], [], 1), name)
+                    done = node.finalbody[0]
+                    self.assertIsInstance(done, ast.Assign)
+                    for side in (done.targets[0], done.value):
+                        self.assertTrue(all(isinstance(part, (ast.Name, ast.Attribute)) for part in side.elts), name)
 
     def test_imports_l2_l16(self):
         there = trees()
@@ -225,7 +262,7 @@ class Language(unittest.TestCase):
                     own.update({part.name: True for part in node.body if isinstance(part, ast.FunctionDef)})
         attributes = {node.attr for tree in trees().values() for node in ast.walk(tree)
                       if isinstance(node, ast.Attribute) and isinstance(node.ctx, ast.Store)}
-        self.assertFalse([word for word in own if word in METHODS or word in attributes])
+        self.assertFalse([word for word in own if word in CHANGING or word in attributes])
         for name, tree in trees().items():
             above = parents_of(tree)
             for node in ast.walk(tree):

@@ -97,6 +97,14 @@ OTHERS = {
     "begun": [["a"], []],
     "one": ["a", "d"],
     "other": ["d", "b"],
+    "spans": [({path: (1, 1) for path in LEDGER}, {house: (0, 3) for house in LETTERS})],
+    "flows": [({pair: 0 for path in LEDGER for pair in (path, path[::-1])}, {house: (0, 0) for house in LETTERS})],
+    "steps": [{pair: 2 for path in LEDGER for pair in (path, path[::-1])}],
+    "told": [{"a": (2, 0), "b": (0, 0), "c": (0, 1), "d": (0, 1)}, {"a": (0, 0), "b": (1, 1), "c": (1, 1), "d": (0, 0)}],
+    "returns": [{path: 0 for path in LEDGER}],
+    "some": [{}, {("b", "d"): 0}],
+    "weave": [{house: [] for house in LETTERS}],
+    "crossings": [{}],
 }
 
 
@@ -134,7 +142,7 @@ class Told(unittest.TestCase):
 
     def test_all_interface_functions_are_called_here(self):
         names = {function.__name__ for function, _ in calls()}
-        self.assertEqual(len(names), 177)
+        self.assertEqual(len(names), 217)
 
     def test_a_ladder_shares_nothing_with_what_is_passed(self):
         high, low = dict(LEDGER), dict(LEAST)
