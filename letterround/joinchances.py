@@ -37,8 +37,8 @@ def joined_chances(village, counts, house, one, other):
 
 
 def meeting_chance(signs, one, other):
-    """The chance that a member of a sign is in a pair with one of another."""
-    if one == other or signs[one] == 0 or signs[other] == 0:
+    """The chance that a member of a sign is in a pair with one of another, (0, 1) if one of both has none."""
+    if signs[one] == 0 or signs[other] == 0:
         return 0, 1
     left = [signs[sign] - 1 if sign in (one, other) else signs[sign] for sign in signs]
     return lowest(signs[other] * count_of_pairings(left), count_of_pairings(list(signs.values())))

@@ -74,9 +74,11 @@ class EndsAlone(unittest.TestCase):
 
     def test_shortest_in_longer_villages(self):
         cases = [("ab bc cd de", (3, 2, 1, 0, 4)), ("ab bc bd de ef eg", (2, 0, 2, 3, 2, 1, 0)),
-                 ("ab ah bc cd de ef fg hi", (2, 0, 1, 0, 1, 0, 0, 2, 2)), ("ab bc cd de df fg gh", (0, 2, 2, 1, 2, 1, 0, 0))]
+                 ("ab ah bc cd de ef fg hi", (2, 0, 1, 0, 1, 0, 0, 2, 2)), ("ab bc cd de df fg gh", (0, 2, 2, 1, 2, 1, 0, 0)),
+                 ("ab ac bd ce ef eg fh gi gj", (3, 1, 0, 1, 0, 1, 1, 1, 2, 0)), ("ab ad bc ce ef fg", (2, 3, 0, 2, 3, 0, 2)),
+                 ("ab ad bc be cf eh fg fi gj", (2, 0, 3, 0, 1, 2, 0, 1, 1, 2))]
         for paths, numbers in cases:
-            village = Village(list("abcdefghi")[:len(numbers)], [tuple(path) for path in paths.split()])
+            village = Village(list("abcdefghij")[:len(numbers)], [tuple(path) for path in paths.split()])
             ends = dict(zip(village.houses(), numbers))
             lengths = [len(steps_of(village, errands)) for errands in all_errands_with(village, ends)]
             self.check(village, ends, shortest_errands(village, ends), min(lengths))

@@ -283,6 +283,13 @@ class Walks(unittest.TestCase):
                 if can_be(model.village(), model.letters(), {**model.book(), path: model.paths[path] + 1}):
                     mending.append(path)
         self.assertEqual(hamlet.mending_paths(), mending)
+        there = questions_of(model.village())
+        for question in there[len(states) % 7::7]:
+            answer = naive_answer(model.village(), model.letters(), model.book(), question)
+            self.assertEqual((hamlet.is_question(question), hamlet.answer(question)), (True, answer))
+        for house in "efgh":
+            self.assertIs(hamlet.is_question(("first", house)), ("first", house) in there)
+            self.assertIs(hamlet.is_question(("spare", house, "b")), ("spare", house, "b") in there)
 
     def watched(self, model):
         return [((question, answer), held) for (question, held), answer in zip(model.asked, model.answers())]
@@ -315,7 +322,8 @@ class Questions(unittest.TestCase):
         hamlet = hamlet_of(EXAMPLE)
         bad = any_objects() + ["can", (), ("can", "a"), ("first",), ("first", "zz"), ("first", None), ("first", "a", "b"),
                                ("spare", "a"), ("spare", "a", "c"), ("spare", "a", "a"), ("spare", "a", "b", "c"), ("could",),
-                               ("beyond", "c", "a"), ("beyond", "b"), ("beyond", ["b"], "a"), (("can",),), {0: "can"}, [["can"]]]
+                               ("beyond", "c", "a"), ("beyond", "b"), ("beyond", ["b"], "a"), (("can",),), {0: "can"}, [["can"]],
+                               (["first"], "a"), ({}, "a"), (None, "a"), (0, "a")]
         for thing in bad:
             self.assertIs(hamlet.is_question(thing), False)
             self.assertIs(raised(BadQuestion, hamlet.answer, thing).thing, thing)

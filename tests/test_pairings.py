@@ -197,6 +197,10 @@ class Weaves(unittest.TestCase):
         self.assertEqual((count_weaves(lone(), ({}, {"x": 0})), weave_at(lone(), ({}, {"x": 0}), 0)), (1, {"x": []}))
         self.assertEqual((count_weaves(lone(), ({}, {"x": 2})), all_errands(lone(), ({}, {"x": 2}))), (0, []))
         self.assertEqual((all_errands(star(), NONE), runs_by(star(), NONE, {house: [] for house in HOUSES})), ([[]], []))
+        # What comes first by the numbers of weaves need not be first here.
+        village = Village(list("abcde"), [("a", "b"), ("a", "c"), ("a", "d"), ("c", "e")])
+        self.assertEqual(all_errands(village, counts_of(village, [("a", "d"), ("b", "e")])),
+                         [[("a", "b"), ("d", "e")], [("a", "d"), ("b", "e")], [("a", "e"), ("b", "d")]])
         fault = (COUNTS[0], {**COUNTS[1], "a": 999999999})
         self.assertEqual((count_weaves(star(), fault), all_errands(star(), fault)), (0, []))
 

@@ -70,7 +70,7 @@ def some_spans(seed, village, widest, highest):
 
     def span():
         wide = random.choice([0, 0, 1, 2, widest])
-        least = random.randrange(highest)
+        least = random.randrange(random.choice([2, 2, highest]))
         return least, least + wide
 
     return {path: span() for path in village.paths()}, {house: span() for house in village.houses()}
@@ -82,6 +82,13 @@ def cases(many):
         village = make()
         for seed in range(many):
             yield village, some_spans(seed, village, 3 if len(village) < 6 else 2, 3)
+            yield village, some_spans(seed, village, 2, 9)
+    # What two signs lack to let a third one's least they have by odd numbers at both alone, or by even ones.
+    for pair in ((1, 2), (2, 3), (0, 1)):
+        for most in (4, 9, 10):
+            ends = {"a": (0, 12), "b": (0, most), "c": (0, 12), "d": (0, 12)}
+            yield star(), ({("a", "b"): (0, 12), ("b", "c"): pair, ("b", "d"): pair}, {**ends, "b": (most, most)})
+            yield star(), ({("a", "b"): (most, most), ("b", "c"): pair, ("b", "d"): pair}, ends)
     village = two()
     for spans in product([(0, 4), (1, 1), (2, 2), (2, 5), (5, 6)], repeat=3):
         yield village, ({("a", "x"): spans[0]}, {"a": spans[1], "x": spans[2]})
